@@ -1,0 +1,119 @@
+"""The package keeps to its subset of the language, and its interface is there as written."""
+
+import ast
+import inspect
+import importlib
+import os
+import tempfile
+import unittest
+
+from tests.language import Package, faults_of
+
+HERE = os.path.dirname(os.path.dirname(os.path.abspath(__file__)))
+PACKAGE = os.path.join(HERE, "manysights")
+
+ERRORS = {
+    "NoDeals": "", "SizesDiffer": "one two", "BadCount": "count", "BadName": "name", "TakenName": "name",
+    "BadLength": "count", "BadDigit": "index", "BadWeight": "index", "UnknownName": "name",
+    "UnknownParty": "name", "UnknownFact": "name", "UnknownDeal": "deal", "NoViews": "",
+    "NotGrounded": "index", "NotPlain": "", "NotFactClaim": "", "BadSource": "index",
+    "NotPossible": "index", "TooManyDeeds": "number", "NothingToUndo": "", "Stopped": "number",
+    "NotOnePiece": "", "TooManyStates": "limit", "BadMove": "place", "HasCall": "index",
+    "NoSpeakers": "", "NoWeights": "", "BadAct": "index", "NoActs": "", "BadNote": "index",
+    "BadPurse": "index", "BadText": "text", "BadLine": "line",
+}
+
+FUNCTIONS = {
+    "chains": ["tells(one, two)", "unlike_pair(one, two)", "links(sights, start, goal)",
+               "reached(sights, start)", "is_closed(sights, deals)"],
+    "listings": ["restricted(sight, deals)", "crossed(one, two)", "all_sights(size)", "sight_count(size)",
+                 "splits(sight)", "merges(sight)"],
+    "pieces": ["common_sight(standing)", "pieces(standing)", "piece_of(standing, deal)", "beside(one, two)"],
+}
+
+CLASSES = {
+    "sights.Sight": ["__init__(self, marks)", "cells", "cell_of(self, deal)", "alike(self, one, two)",
+                     "nothing(size)", "everything(size)", "__and__(self, other)", "__or__(self, other)",
+                     "__eq__(self, other)"],
+    "standings.Standing": ["__init__(self, count)", "key", "with_fact(self, name, digits)",
+                           "with_party(self, name, marks, *, weights=None)", "without_fact(self, name)",
+                           "without_party(self, name)", "only(self, deals)", "digit(self, fact, deal)",
+                           "digits(self, fact)", "sight(self, party)", "weights(self, party)",
+                           "position(self, deal)", "__contains__", "__len__(self)", "__iter__(self)",
+                           "__eq__(self, other)"],
+    "views.View": ["grounded", "eyes(party)", "value(fact)", "whether(claim)", "when(claim, view)",
+                   "worth(party, terms, *, seen=None)", "pooled(views)", "common(views)",
+                   "answer(party, claim)", "__and__(self, other)", "__or__(self, other)",
+                   "__eq__(self, other)"],
+    "claims.Claim": ["always()", "fact(name, digit)", "known(view, claim)", "weighs(party, view, terms)",
+                     "all_of(claims)", "any_of(claims)", "knows(party, claim)",
+                     "likely(party, claim, top, bottom)", "gains(party, terms)", "__invert__(self)",
+                     "__and__(self, other)", "__or__(self, other)", "__eq__(self, other)"],
+}
+
+
+class LanguageTest(unittest.TestCase):
+    def test_package_keeps_the_rules(self):
+        self.assertEqual(faults_of(PACKAGE), [])
+
+    def test_faults_are_found(self):
+        bad = {
+            "one.py": "from pack.two import b\n\n\ndef a(x):\n    \"\"\"A.\"\"\"\n    return b(x) / 2\n",
+            "two.py": "from pack.one import a\n\n\ndef b(id):\n    \"\"\"B.\"\"\"\n    return any(a(k) for k in id)\n",
+        }
+        with tempfile.TemporaryDirectory() as folder:
+            pack = os.path.join(folder, "pack")
+            os.mkdir(pack)
+            for name, text in bad.items():
+                with open(os.path.join(pack, name), "w", encoding="utf-8") as stream:
+                    stream.write(text)
+            text = " ".join(Package(pack).look())
+        for word in ("L16", "L7: the operator", "L7: a generator", "L15: id"):
+            self.assertIn(word, text)
+
+
+class InterfaceTest(unittest.TestCase):
+    def defined(self, module):
+        with open(os.path.join(PACKAGE, module + ".py"), encoding="utf-8") as stream:
+            tree = ast.parse(stream.read())
+        return {node.name: node for node in tree.body if isinstance(node, (ast.FunctionDef, ast.ClassDef))}
+
+    def test_functions(self):
+        for module, forms in FUNCTIONS.items():
+            there = importlib.import_module("manysights." + module)
+            for form in forms:
+                name = form.partition("(")[0]
+                self.assertIn(name, self.defined(module))
+                self.assertEqual(name + str(inspect.signature(getattr(there, name))), form)
+
+    def test_classes(self):
+        for place, forms in CLASSES.items():
+            module, _, name = place.partition(".")
+            node = self.defined(module)[name]
+            own = {item.name for item in node.body if isinstance(item, ast.FunctionDef)}
+            there = getattr(importlib.import_module("manysights." + module), name)
+            for form in forms:
+                method = form.partition("(")[0]
+                self.assertIn(method, own)
+                if "(" in form:
+                    self.assertEqual(method + str(inspect.signature(getattr(there, method))), form)
+
+    def test_errors(self):
+        there = importlib.import_module("manysights.errors")
+        self.assertEqual(set(self.defined("errors")), set(ERRORS) | {"DealError"})
+        self.assertTrue(issubclass(there.DealError, ValueError))
+        self.assertEqual(there.DealError.__bases__, (ValueError,))
+        for name, fields in ERRORS.items():
+            kind = getattr(there, name)
+            base = there.UnknownName if name in ("UnknownParty", "UnknownFact") else there.DealError
+            self.assertEqual(kind.__bases__, (base,))
+            values = [f"value {index}" for index in range(len(fields.split()))]
+            error = kind(*values)
+            for field, value in zip(fields.split(), values):
+                self.assertEqual(getattr(error, field), value)
+            self.assertEqual(set(vars(error)), set(fields.split()))
+            self.assertIsInstance(error, ValueError)
+
+
+if __name__ == "__main__":
+    unittest.main()
