@@ -90,8 +90,9 @@ class Standing:
         if len(row) != len(self.deals):
             raise BadLength(len(row))
         check_weights(row)
-        added = (name, Sight(marks), row)
-        return made_standing(self.deals, self._fact_rows, (*self._party_triples(), added))
+        triples = list(self._party_triples())
+        triples.append((name, Sight(marks), row))
+        return made_standing(self.deals, self._fact_rows, triples)
 
     def without_fact(self, name):
         """Return the standing without this fact."""

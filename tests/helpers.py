@@ -1,7 +1,12 @@
 """What several tests use: other values, plain counterparts and checks of form."""
 
+import itertools
+from fractions import Fraction
+
+from manysights.claims import Claim
 from manysights.errors import DealError
 from manysights.standings import Standing
+from manysights.views import View
 
 NO_NAMES = ("", "A", "1a", "a b", "aB", "abcdefghi", "a-b", "a\n", " a", "a ", "_a", "a.b", "z~")
 NAMES = ("a", "z", "a1", "abcdefgh", "a0000009", "x9y8z7")
@@ -28,6 +33,17 @@ class Fails:
         self.assertIs(error.__class__, kind, f"{error!r}")
         for name, value in fields.items():
             self.assertEqual(getattr(error, name), value)
+
+    def assert_well_formed(self, standing):
+        """Check that the standing equals the one that its own methods make."""
+        made = Standing(max(standing.deals) + 1).only(standing.deals)
+        for name in standing.facts:
+            made = made.with_fact(name, standing.digits(name))
+        for name in standing.parties:
+            made = made.with_party(name, standing.sight(name).marks, weights=standing.weights(name))
+        self.assertEqual(standing, made)
+        self.assertEqual([standing.position(deal) for deal in standing], list(range(len(standing))))
+        self.assert_tuples(standing.key)
 
     def assert_tuples(self, value):
         """Check that there is no list at any level."""
@@ -76,3 +92,200 @@ def random_standing(random, *, most=7, parties="abc", facts="fg", gaps=True, wei
         heavy = [random.randint(1, 4) for _ in standing] if weights else None
         standing = standing.with_party(name, marks, weights=heavy)
     return standing.only(sorted(random.sample(list(standing), count)))
+
+
+def random_grounded(random, depth, parties="abc", facts="fg"):
+    """Return a random view that is grounded."""
+    kind = random.randint(0, 3) if depth else 0
+    if kind == 0:
+        return View.eyes(random.choice(parties))
+    if kind == 1:
+        size = random.randint(1, 3)
+        return View.common([random_grounded(random, depth - 1, parties, facts) for _ in range(size)])
+    members = [random_view(random, depth - 1, parties, facts) for _ in range(random.randint(0, 2))]
+    members.insert(random.randint(0, len(members)), random_grounded(random, depth - 1, parties, facts))
+    return View.pooled(members)
+
+
+def random_view(random, depth, parties="abc", facts="fg"):
+    """Return a random view of any kind."""
+    kind = random.randint(0, 7) if depth else random.randint(0, 1)
+    if kind == 0:
+        return View.eyes(random.choice(parties))
+    if kind == 1:
+        return View.value(random.choice(facts))
+    if kind == 2:
+        return View.whether(random_claim(random, depth - 1, parties, facts))
+    if kind == 3:
+        claim = random_claim(random, depth - 1, parties, facts)
+        return View.when(claim, random_view(random, depth - 1, parties, facts))
+    if kind == 4:
+        seen = random_grounded(random, depth - 1, parties, facts) if random.random() < 0.5 else None
+        return View.worth(random.choice(parties), random_terms(random, depth - 1, parties, facts), seen=seen)
+    if kind == 5:
+        return View.pooled([random_view(random, depth - 1, parties, facts) for _ in range(random.randint(1, 3))])
+    return random_grounded(random, depth, parties, facts)
+
+
+def random_terms(random, depth, parties="abc", facts="fg"):
+    """Return random terms."""
+    count = random.randint(0, 2)
+    return [[random.randint(-3, 3), random_claim(random, depth, parties, facts)] for _ in range(count)]
+
+
+def random_claim(random, depth, parties="abc", facts="fg"):
+    """Return a random claim of any kind."""
+    kind = random.randint(0, 6) if depth else random.randint(0, 1)
+    if kind == 0:
+        return Claim.fact(random.choice(facts), random.randint(0, 2))
+    if kind == 1:
+        return Claim.always() if random.random() < 0.3 else Claim.fact(random.choice(facts), random.randint(0, 2))
+    if kind == 2:
+        view = random_grounded(random, depth - 1, parties, facts)
+        return Claim.known(view, random_claim(random, depth - 1, parties, facts))
+    if kind == 3:
+        view = random_grounded(random, depth - 1, parties, facts)
+        return Claim.weighs(random.choice(parties), view, random_terms(random, depth - 1, parties, facts))
+    if kind == 4:
+        return ~random_claim(random, depth - 1, parties, facts)
+    members = [random_claim(random, depth - 1, parties, facts) for _ in range(random.randint(0, 3))]
+    return Claim.all_of(members) if kind == 5 else Claim.any_of(members)
+
+
+def random_plain(random, eyes, parties="abc"):
+    """Return a random plain view with so many eyes."""
+    if eyes == 1:
+        return View.eyes(random.choice(parties))
+    cuts = sorted(random.sample(range(1, eyes), random.randint(1, min(eyes - 1, 2))))
+    sizes = [high - low for low, high in zip([0] + cuts, cuts + [eyes])]
+    members = [random_plain(random, size, parties) for size in sizes]
+    return random.choice([View.pooled, View.common])(members)
+
+
+def party_weight(standing, party, deals):
+    """Return the sum of the weights of these open deals."""
+    return sum(standing.weights(party)[standing.position(deal)] for deal in deals)
+
+
+def cell_at(standing, view, deal):
+    """Return the deals that are alike to a deal in a view, by the words of point 23."""
+    return [other for other in standing if meant_alike(standing, view, deal, other)]
+
+
+def worth_at(standing, party, terms, deals):
+    """Return the worth of terms in a set of deals, by the words of point 23."""
+    top = sum(number * party_weight(standing, party, [d for d in deals if meant_true(standing, claim, d)])
+              for number, claim in terms)
+    return Fraction(top, party_weight(standing, party, deals))
+
+
+def meant_alike(standing, parts, deal, other):
+    """Tell whether two open deals are alike in a view, given by its parts, by the words of point 23."""
+    word = parts[0]
+    if word == "eyes":
+        return standing.sight(parts[1]).alike(standing.position(deal), standing.position(other))
+    if word == "value":
+        return standing.digit(parts[1], deal) == standing.digit(parts[1], other)
+    if word == "whether":
+        return meant_true(standing, parts[1], deal) == meant_true(standing, parts[1], other)
+    if word == "when":
+        one, two = meant_true(standing, parts[1], deal), meant_true(standing, parts[1], other)
+        return (not one and not two) or (one and two and meant_alike(standing, parts[2], deal, other))
+    if word == "worth":
+        worths = [worth_at(standing, parts[1], parts[3], cell_at(standing, parts[2], d)) for d in (deal, other)]
+        return worths[0] == worths[1]
+    if word == "pooled":
+        return all(meant_alike(standing, member, deal, other) for member in parts[1])
+    reached, size = {deal}, 0
+    while size < len(reached):
+        size = len(reached)
+        for member in parts[1]:
+            for start in sorted(reached):
+                reached |= set(cell_at(standing, member, start))
+    return other in reached
+
+
+def meant_true(standing, parts, deal):
+    """Tell whether a claim, given by its parts, holds at an open deal, by the words of point 24."""
+    word = parts[0]
+    if word == "always":
+        return True
+    if word == "fact":
+        return standing.digit(parts[1], deal) == parts[2]
+    if word == "known":
+        return all(meant_true(standing, parts[2], other) for other in cell_at(standing, parts[1], deal))
+    if word == "weighs":
+        cell = cell_at(standing, parts[2], deal)
+        return sum(number * party_weight(standing, parts[1], [d for d in cell if meant_true(standing, claim, d)])
+                   for number, claim in parts[3]) >= 0
+    if word == "not":
+        return not meant_true(standing, parts[1], deal)
+    if word == "and":
+        return all(meant_true(standing, member, deal) for member in parts[1])
+    return any(meant_true(standing, member, deal) for member in parts[1])
+
+
+def plain_marks(parts, rows):
+    """Return the marks of a plain view, given by its parts, if the parties have these marks."""
+    if parts[0] == "eyes":
+        return rows[parts[1]]
+    inner = [plain_marks(member, rows) for member in parts[1]]
+    if parts[0] == "pooled":
+        return canonical(list(zip(*inner)))
+    return marks_of_near(joined(inner, len(inner[0])))
+
+
+def is_right_form(customs, one, two, value):
+    """Tell whether the value is a derivation, by the words of points 29 and 115; views are parts."""
+    if value[0] == "same":
+        return len(value) == 1 and one[0] == two[0] == "eyes" and one[1] == two[1]
+    if value[0] == "from each":
+        return one[0] == "common" and len(value) == 2 and len(value[1]) == len(one[1]) and all(
+            is_right_form(customs, member, two, inner) for member, inner in zip(one[1], value[1]))
+    if value[0] == "to each":
+        return two[0] == "pooled" and len(value) == 2 and len(value[1]) == len(two[1]) and all(
+            is_right_form(customs, one, member, inner) for member, inner in zip(two[1], value[1]))
+    if value[0] == "from":
+        return one[0] == "pooled" and is_right_form(customs, one[1][value[1]], two, value[2])
+    if value[0] == "to":
+        return two[0] == "common" and is_right_form(customs, one, two[1][value[1]], value[2])
+    view, party = customs[value[1]]
+    return value[0] == "by" and is_right_form(customs, one, view.parts, value[2]) and is_right_form(
+        customs, ("eyes", party), two, value[3])
+
+
+def tuples_within(value):
+    """Return how many tuples stand within each other, the value included."""
+    return 1 + max([tuples_within(item) for item in value], default=0) if isinstance(value, tuple) else 0
+
+
+def spoilt_forms(value):
+    """Yield values that differ from a derivation in one place; most of them are wrong."""
+    if isinstance(value, tuple):
+        for place, item in enumerate(value):
+            yield value[:place] + value[place + 1:]
+            yield value[:place] + (None,) + value[place + 1:]
+            yield value[:place] + (item, item) + value[place + 1:]
+            for other in spoilt_forms(item):
+                yield value[:place] + (other,) + value[place + 1:]
+        yield value + ("same",)
+    elif isinstance(value, int):
+        yield from (value + 1, value - 1, -1, 10**20, "0", ())
+    else:
+        yield from (word for word in ("same", "from", "to", "from each", "to each", "by", "") if word != value)
+
+
+def small_standings(names, size):
+    """Yield all standings of a size with these parties and nothing else."""
+    for rows in itertools.product(every_marks(size), repeat=len(names)):
+        standing = Standing(size)
+        for name, row in zip(names, rows):
+            standing = standing.with_party(name, row)
+        yield standing
+
+
+NOT_PLAIN = [
+    View.value("f"), View.whether(Claim.always()), View.when(Claim.always(), View.eyes("a")), View.worth("a", []),
+    View.eyes("a") & View.value("f"), View.common([View.eyes("a") & View.value("f"), View.eyes("b")]),
+    View.eyes("a") & (View.eyes("b") | (View.eyes("c") & View.whether(Claim.always()))),
+]

@@ -28,6 +28,17 @@ FUNCTIONS = {
                "reached(sights, start)", "is_closed(sights, deals)"],
     "listings": ["restricted(sight, deals)", "crossed(one, two)", "all_sights(size)", "sight_count(size)",
                  "splits(sight)", "merges(sight)"],
+    "meanings": ["sight_of(standing, view)", "where(standing, claim)", "holds(standing, claim, deal)"],
+    "answers": ["verdict(standing, claim)", "reason(standing, view, claim, deal)", "view_names(view)",
+                "claim_names(claim)"],
+    "orders": ["is_derivation(one, two, value)", "always_tells(one, two)", "parts_views(one, two, standing, pair)",
+               "always_alike(one, two)"],
+    "smallest": ["smallest_parting(one, two, *, most=4)"],
+    "shortest": ["shortest(view)", "is_shortest(view)", "needed_parties(view)"],
+    "follows": ["follows(premises, conclusion)"],
+    "customs": ["keeps_customs(standing, customs)", "is_derivation_under(customs, one, two, value)",
+                "tells_under(customs, one, two)", "same_under(customs, one, two)"],
+    "conclusions": ["follows_under(customs, premises, conclusion)"],
     "pieces": ["common_sight(standing)", "pieces(standing)", "piece_of(standing, deal)", "beside(one, two)"],
 }
 
@@ -49,6 +60,12 @@ CLASSES = {
                      "all_of(claims)", "any_of(claims)", "knows(party, claim)",
                      "likely(party, claim, top, bottom)", "gains(party, terms)", "__invert__(self)",
                      "__and__(self, other)", "__or__(self, other)", "__eq__(self, other)"],
+    "answers.Asker": ["__init__(self, standing, party)", "__call__(self, claim, deal)"],
+    "answers.Reason": [],
+    "orders.Telling": [],
+    "follows.Following": [],
+    "deeds.Deed": ["show(lessons)", "announce(view)", "call(claim)", "change(settings)", "forget(party, view)",
+                   "row(deeds)", "exchange(fact, other)", "__rshift__(self, other)", "__eq__(self, other)"],
 }
 
 

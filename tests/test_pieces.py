@@ -30,6 +30,7 @@ class PiecesTest(Fails, unittest.TestCase):
             marks = marks_of_near(joined(rows, len(standing)))
             self.assertEqual(common_sight(standing).marks, marks)
             found = pieces(standing)
+            self.assert_well_formed(found[-1])
             self.assertEqual(len(found), max(marks) + 1)
             for number, piece in enumerate(found):
                 deals = [deal for deal, mark in zip(standing.deals, marks) if mark == number]
@@ -70,6 +71,7 @@ class BesideTest(Fails, unittest.TestCase):
             two = random_standing(chance, most=4, parties="cbd", facts="gh")
             both = beside(one, two)
             self.assertEqual(both.deals, tuple(range(len(one) * len(two))))
+            self.assert_well_formed(both)
             self.assertEqual(both.facts, ("f", "g", "h"))
             self.assertEqual(both.parties, ("a", "b", "c", "d"))
             for deal in both:

@@ -143,6 +143,7 @@ class OnlyTest(Fails, unittest.TestCase):
             deals = chance.choices(standing.deals, k=chance.randint(1, 8))
             less = standing.only(deals)
             kept = sorted(set(deals))
+            self.assert_well_formed(less)
             self.assertEqual(less.deals, tuple(kept))
             for name in standing.facts:
                 self.assertEqual(less.digits(name), tuple(standing.digit(name, deal) for deal in kept))

@@ -1,0 +1,93 @@
+"""The shortest form of a plain view."""
+
+from manysights.deriving import AlwaysSearch
+from manysights.naming import PARTY, names_of, parties_of
+from manysights.plains import Plains, check_plain, plain_text
+from manysights.views import View
+
+
+class Shortener:
+    """Finds shortest forms of plain views, under numbers (see Plains)."""
+
+    def __init__(self):
+        self._plains = Plains()
+        self._search = AlwaysSearch(self._plains)
+
+    def shortest_parts(self, parts):
+        """Return the parts of the shortest form of a view."""
+        return self._plains.parts_of(self._shortest(self._plains.number_of(parts)))
+
+    def _shortest(self, number):
+        """Return the number of the shortest form of a view."""
+        word, inside = self._plains.rows[number]
+        if word == "eyes":
+            return number
+        members = self._opened(word, [self._shortest(member) for member in inside])
+        fewer = self._lowered(word, members)
+        while fewer != members:
+            members = self._opened(word, fewer)
+            fewer = self._lowered(word, members)
+        return self._joined(word, self._needed(word, members))
+
+    def _opened(self, word, members):
+        """Return the members with those of the same word replaced by what is in them."""
+        found = []
+        for member in members:
+            inner, inside = self._plains.rows[member]
+            found.extend(inside if inner == word else (member,))
+        return found
+
+    def _joined(self, word, members):
+        """Return the number of the view with these members, in order."""
+        if len(members) == 1:
+            return members[0]
+        ordered = sorted(members, key=self._rank)
+        return self._plains.number_of_row((word, tuple(ordered)))
+
+    def _rank(self, number):
+        """Return the place of a view in the order of plain views."""
+        parts = self._plains.parts_of(number)
+        eyes = [name for kind, name in names_of(parts) if kind == PARTY]
+        return (len(eyes), plain_text(parts))
+
+    def _goes(self, word, one, two):
+        """Tell whether `two` tells `one`, if the word is pooled, or `one` tells `two`."""
+        if word == "pooled":
+            one, two = two, one
+        return self._search.look(one, two, 0) is not None
+
+    def _lowered(self, word, members):
+        """Return the members, one of them replaced by what is in it if that changes nothing."""
+        whole = self._joined(word, members)
+        for place, member in enumerate(members):
+            inner, inside = self._plains.rows[member]
+            if inner != "eyes":
+                for part in inside:
+                    if self._goes(word, part, whole):
+                        return members[:place] + [part] + members[place + 1:]
+        return members
+
+    def _needed(self, word, members):
+        """Return the members without those that add nothing to another one."""
+        found = list({member: True for member in members})
+        for member in list(found):
+            rest = [other for other in found if other != member]
+            if any([self._goes(word, member, other) for other in rest]):
+                found = rest
+        return found
+
+
+def shortest(view):
+    """Return the view in shortest form that is always alike to the view."""
+    check_plain((view,))
+    return View(Shortener().shortest_parts(view.parts))
+
+
+def is_shortest(view):
+    """Tell whether the view is in shortest form."""
+    return shortest(view) == view
+
+
+def needed_parties(view):
+    """Return the parties without whose eyes no view is always alike to this one."""
+    return parties_of(shortest(view).parts)
