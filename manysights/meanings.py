@@ -7,6 +7,7 @@ names the standing has.
 from math import gcd
 
 from manysights.naming import check_names
+from manysights.plains import combined
 from manysights.sights import Sight
 
 
@@ -23,7 +24,7 @@ def part_sight(standing, parts):
         return when_sight(standing, parts[1], parts[2])
     if word == "worth":
         return worth_sight(standing, parts[1], parts[2], parts[3])
-    return members_sight(standing, word, parts[1])
+    return combined(word, [part_sight(standing, member) for member in parts[1]])
 
 
 def when_sight(standing, claim, view):
@@ -31,15 +32,6 @@ def when_sight(standing, claim, view):
     truths = part_truths(standing, claim)
     marks = part_sight(standing, view).marks
     return Sight([mark if holding else -1 for mark, holding in zip(marks, truths)])
-
-
-def members_sight(standing, word, members):
-    """Return what the members tell together, or what is common to them."""
-    sight = part_sight(standing, members[0])
-    for member in members[1:]:
-        other = part_sight(standing, member)
-        sight = sight & other if word == "pooled" else sight | other
-    return sight
 
 
 def worth_sight(standing, party, seen, terms):

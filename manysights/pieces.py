@@ -1,5 +1,6 @@
 """What all parties know in common, and two tables side by side."""
 
+from manysights.chains import reached
 from manysights.errors import TakenName
 from manysights.listings import crossed
 from manysights.sights import Sight
@@ -27,8 +28,8 @@ def pieces(standing):
 
 def piece_of(standing, deal):
     """Return the piece that contains the deal, as a standing."""
-    place = standing.position(deal)
-    return standing.only(open_deals(standing, common_sight(standing).cell_of(place)))
+    sights = [standing.sight(party) for party in standing.parties]
+    return standing.only(open_deals(standing, reached(sights, standing.position(deal))))
 
 
 def crossed_row(row, other):

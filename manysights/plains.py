@@ -22,15 +22,19 @@ def check_plain(views):
             raise NotPlain()
 
 
+def combined(word, sights):
+    """Return what the sights tell together if the word is pooled, or what is common to them."""
+    sight = sights[0]
+    for other in sights[1:]:
+        sight = sight & other if word == "pooled" else sight | other
+    return sight
+
+
 def plain_sight(parts, sights):
     """Return the sight that a plain view means if the parties have these sights."""
     if parts[0] == "eyes":
         return sights[parts[1]]
-    sight = plain_sight(parts[1][0], sights)
-    for member in parts[1][1:]:
-        other = plain_sight(member, sights)
-        sight = sight & other if parts[0] == "pooled" else sight | other
-    return sight
+    return combined(parts[0], [plain_sight(member, sights) for member in parts[1]])
 
 
 def plain_text(parts):

@@ -1,7 +1,7 @@
 """The shortest form of a plain view."""
 
 from manysights.deriving import AlwaysSearch
-from manysights.naming import PARTY, names_of, parties_of
+from manysights.naming import names_of, parties_of
 from manysights.plains import Plains, check_plain, plain_text
 from manysights.views import View
 
@@ -47,8 +47,7 @@ class Shortener:
     def _rank(self, number):
         """Return the place of a view in the order of plain views."""
         parts = self._plains.parts_of(number)
-        eyes = [name for kind, name in names_of(parts) if kind == PARTY]
-        return (len(eyes), plain_text(parts))
+        return (len(names_of(parts)), plain_text(parts))
 
     def _goes(self, word, one, two):
         """Tell whether `two` tells `one`, if the word is pooled, or `one` tells `two`."""

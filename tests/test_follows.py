@@ -8,7 +8,7 @@ import unittest
 from manysights.answers import claim_names, view_names
 from manysights.claims import Claim
 from manysights.errors import NotFactClaim, NotPlain
-from manysights.follows import follows
+from manysights.follows import Following, follows
 from manysights.meanings import holds
 from manysights.orders import always_tells, is_derivation
 from manysights.views import View
@@ -60,19 +60,18 @@ def must_follow(premises, conclusion, used):
                if all(satisfied(premises[index][1].parts, case) for index in used))
 
 
-class FollowsTest(Fails, unittest.TestCase):
-    def check(self, premises, conclusion):
-        """Hold an answer against the words of the document."""
-        found = follows(premises, conclusion)
-        used = [index for index, (view, _) in enumerate(premises) if always_tells(conclusion[0], view).tells]
+class Concludes(Fails):
+    """A part of test cases: what a Following must be."""
+
+    def assert_following(self, found, premises, conclusion, used):
+        """Hold all but the derivations against the words of the document."""
+        self.assertIsInstance(found, Following)
         self.assertIs(found.follows, must_follow(premises, conclusion, used))
         self.assert_tuples(found.used)
         if found.follows:
             self.assertIsNone(found.standing)
             self.assertIsNone(found.deal)
             self.assertEqual([index for index, _ in found.used], used)
-            for index, derivation in found.used:
-                self.assertTrue(is_derivation(conclusion[0], premises[index][0], derivation))
         else:
             self.assertEqual(found.used, ())
             self.assertIn(found.deal, found.standing)
@@ -83,6 +82,16 @@ class FollowsTest(Fails, unittest.TestCase):
             for view, claim in [*premises, conclusion]:
                 self.assertLessEqual(set(view_names(view)[0]), set(found.standing.parties))
                 self.assertLessEqual(set(claim_names(claim)[1]), set(found.standing.facts))
+
+
+class FollowsTest(Concludes, unittest.TestCase):
+    def check(self, premises, conclusion):
+        """Hold an answer against the words of the document."""
+        found = follows(premises, conclusion)
+        used = [index for index, (view, _) in enumerate(premises) if always_tells(conclusion[0], view).tells]
+        self.assert_following(found, premises, conclusion, used)
+        for index, derivation in found.used:
+            self.assertTrue(is_derivation(conclusion[0], premises[index][0], derivation))
         return found
 
     def test_simple(self):

@@ -91,6 +91,15 @@ class ShortestTest(Fails, unittest.TestCase):
         self.assertEqual([written(part) for part in shortest(mixed).parts[1]],
                          ["eyes(z)", "(eyes(b) | eyes(c))", "(eyes(b1) | eyes(c))"])
 
+    def test_order_of_written_forms(self):
+        d, e = View.eyes("d"), View.eyes("e")
+        flat, nested = View.common([A, d, e]), A | (B & C)
+        self.assertEqual(shortest(flat & nested).parts, (nested & flat).parts)
+        self.assertEqual(shortest(nested & flat).parts, (nested & flat).parts)
+        flat, nested = View.pooled([A, d, e]), A & (B | C)
+        self.assertEqual(shortest(flat | nested).parts, (nested | flat).parts)
+        self.assertIs(is_shortest(flat | nested), False)
+
     def test_against_the_words(self):
         chance = random.Random(24)
         for _ in range(800):

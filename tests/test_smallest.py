@@ -63,6 +63,11 @@ class SmallestTest(Fails, unittest.TestCase):
         self.assertIsNone(smallest_parting(A & B, A, most=1))
         self.assertIsNone(smallest_parting(A, B, most=1))
 
+    def test_most_is_four_by_default(self):
+        self.assertEqual(smallest_parting(*NARROW)[0], 4)
+        self.assertEqual(smallest_parting(*NARROW), smallest_parting(*NARROW, most=4))
+        self.assertIsNone(smallest_parting(*NARROW, most=3))
+
     def test_against_plain_walk(self):
         chance = random.Random(23)
         for index in range(200):

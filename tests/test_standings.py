@@ -157,6 +157,8 @@ class OnlyTest(Fails, unittest.TestCase):
         standing = small().only([0, 2, 3])
         self.assert_error(NoDeals, {}, standing.only, [])
         self.assert_error(NoDeals, {}, standing.only, ())
+        self.assert_error(NoDeals, {}, Standing(3).only, [])
+        self.assert_error(NoDeals, {}, Standing(3).with_fact("f", [0, 0, 0]).only, [])
         self.assert_error(UnknownDeal, {"deal": 1}, standing.only, [0, 1, 4])
         self.assert_error(UnknownDeal, {"deal": 4}, standing.only, [4])
         self.assert_error(UnknownDeal, {"deal": -1}, standing.only, [2, -1, 1])
