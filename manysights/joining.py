@@ -39,14 +39,20 @@ def join_deals(parts):
     return (count, joins)
 
 
+def root_of(boss, deal):
+    """Return the root of the deal, halving the way to it for the next time."""
+    while boss[deal] != deal:
+        boss[deal] = boss[boss[deal]]
+        deal = boss[deal]
+    return deal
+
+
 def joined_sight(count, pairs):
     """Return the sight in which the pairs of deals are alike, and no more than must be."""
-    marks = list(range(count))
+    boss = list(range(count))
     for deal, other in pairs:
-        low, high = marks[deal], marks[other]
-        if low != high:
-            marks = [low if mark == high else mark for mark in marks]
-    return Sight(marks)
+        boss[root_of(boss, other)] = root_of(boss, deal)
+    return Sight([root_of(boss, deal) for deal in range(count)])
 
 
 def kept(customs, sights):
