@@ -39,6 +39,17 @@ def fresh_cells(sights, layer, done):
     return found
 
 
+def fresh_deals(cells, steps, found):
+    """Return the deals of the cells that are not found yet; now they are, in so many steps."""
+    fresh = []
+    for cell in cells:
+        for deal in cell:
+            if deal not in found:
+                found[deal] = steps
+                fresh.append(deal)
+    return fresh
+
+
 def distances(sights, starts):
     """Return the number of steps from the nearest of `starts` for each deal reached."""
     found = {deal: 0 for deal in starts}
@@ -47,13 +58,7 @@ def distances(sights, starts):
     steps = 0
     while layer:
         steps += 1
-        fresh = []
-        for cell in fresh_cells(sights, layer, done):
-            for deal in cell:
-                if deal not in found:
-                    found[deal] = steps
-                    fresh.append(deal)
-        layer = fresh
+        layer = fresh_deals(fresh_cells(sights, layer, done), steps, found)
     return found
 
 

@@ -29,15 +29,20 @@ def all_sights(size):
         marks = marks_after(marks)
 
 
+def row_after(row):
+    """Return the row of Bell's triangle after this one."""
+    fresh = [row[-1]]
+    for number in row:
+        fresh.append(fresh[-1] + number)
+    return fresh
+
+
 def sight_count(size):
     """Return the number of sights of this size."""
-    # Each row of Bell's triangle begins with the last number of the row before.
+    # The rows of Bell's triangle end with these numbers.
     row = [1]
     for _ in range(size - 1):
-        fresh = [row[-1]]
-        for number in row:
-            fresh.append(fresh[-1] + number)
-        row = fresh
+        row = row_after(row)
     return row[-1]
 
 

@@ -11,6 +11,8 @@ import os
 import re
 import tokenize
 
+from tests.loops import changers_of, faults_in
+
 ALLOWED_BUILTINS = set(
     "len range enumerate zip min max sum abs sorted reversed int str bool bytes list tuple dict set "
     "frozenset isinstance ord repr any all divmod pow getattr hasattr setattr iter next map super "
@@ -168,9 +170,14 @@ class Package:
 
     def look(self):
         """Look through everything and return the faults."""
+        changers = changers_of([source.tree for source in self.sources])
         for source in self.sources:
             self._look_text(source)
             self._look_module(source)
+            for node in ast.walk(source.tree):
+                if isinstance(node, ast.FunctionDef):
+                    for inner, path in faults_in(node, changers):
+                        self.fault(source, inner, f"L23: {path} is changed in its loop")
             for node in ast.walk(source.tree):
                 self._look_node(source, node)
         self._look_cycles()
@@ -279,8 +286,6 @@ class Package:
             self._look_attribute(source, node)
         if isinstance(node, ast.Call):
             self._look_call(source, node)
-        if isinstance(node, ast.For):
-            self._look_loop(source, node)
         if isinstance(node, (ast.Set, ast.SetComp)):
             self._look_set(source, node)
         if isinstance(node, ast.ExceptHandler) and not isinstance(node.type, (ast.Name, ast.Tuple)):
@@ -423,20 +428,6 @@ class Package:
         if isinstance(parent, ast.Compare):
             return
         self.fault(source, node, "L24: a set")
-
-    def _look_loop(self, source, node):
-        names = {inner.id for inner in ast.walk(node.iter) if isinstance(inner, ast.Name)}
-        if isinstance(node.iter, ast.Call) and getattr(node.iter.func, "id", None) in ("list", "sorted", "range"):
-            return
-        for inner in ast.walk(ast.Module(body=node.body, type_ignores=[])):
-            target = None
-            if isinstance(inner, ast.Call) and isinstance(inner.func, ast.Attribute):
-                if inner.func.attr in MODIFIERS:
-                    target = inner.func.value
-            if isinstance(inner, ast.Subscript) and isinstance(inner.ctx, (ast.Store, ast.Del)):
-                target = inner.value
-            if isinstance(target, ast.Name) and target.id in names:
-                self.fault(source, inner, f"L23: {target.id} is changed in its loop")
 
     def _look_quiet(self):
         """Look at operators, properties and what they call (L5 Operators, L5 Properties)."""

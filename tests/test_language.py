@@ -8,6 +8,7 @@ import tempfile
 import unittest
 
 from tests.language import Package, faults_of
+from tests.loops import faults_in
 
 HERE = os.path.dirname(os.path.dirname(os.path.abspath(__file__)))
 PACKAGE = os.path.join(HERE, "manysights")
@@ -87,6 +88,22 @@ class LanguageTest(unittest.TestCase):
             text = " ".join(Package(pack).look())
         for word in ("L16", "L7: the operator", "L7: a generator", "L15: id"):
             self.assertIn(word, text)
+
+
+    def test_loops_that_change_what_they_walk(self):
+        texts = {
+            "row = [1]\n    for _ in range(3):\n        fresh = [1]\n        for k in row:\n"
+            "            fresh.append(k)\n        row = fresh": 1,
+            "row = [1]\n    for k in row:\n        row.append(k)": 1,
+            "row = [1]\n    for k in row:\n        row = [k]": 1,
+            "row = [1]\n    for k in enumerate(row):\n        other = row\n        other[0] = k": 1,
+            "row = {}\n    for k, v in row.items():\n        del row[k]": 1,
+            "row = [1]\n    for k in list(row):\n        row.append(k)": 0,
+            "row = [1]\n    for k in row:\n        fresh = list(row)\n        fresh.append(k)": 0,
+        }
+        for text, count in texts.items():
+            tree = ast.parse(f"def f():\n    {text}\n")
+            self.assertEqual(len(faults_in(tree.body[0], {})), count, text)
 
 
 class InterfaceTest(unittest.TestCase):
