@@ -4,35 +4,23 @@ A case gives a digit to each fact. Sets of cases are whole numbers: the bit k
 stands for the case with the index k.
 """
 
+from manysights.forms import inner_first
 from manysights.naming import facts_of
 
+FACT_WORDS = ("always", "fact", "not", "and", "or")
 
-def is_fact_claim(parts):
+
+def is_fact_claim(node):
     """Tell whether the claim is made of always, fact, not, and and or alone."""
-    waiting = [parts]
-    while waiting:
-        inner = waiting.pop()
-        if inner[0] == "not":
-            waiting.append(inner[1])
-        elif inner[0] in ("and", "or"):
-            waiting.extend(inner[1])
-        elif inner[0] not in ("always", "fact"):
-            return False
-    return True
+    return all([inner.label[0] in FACT_WORDS for inner in inner_first((node,))])
 
 
-def named_digits(parts):
-    """Return for each fact of the claim the digits that it names, in ascending order."""
-    found = {name: [] for name in facts_of(parts)}
-    waiting = [parts]
-    while waiting:
-        inner = waiting.pop()
-        if inner[0] == "fact":
-            found[inner[1]].append(inner[2])
-        elif inner[0] == "not":
-            waiting.append(inner[1])
-        elif inner[0] != "always":
-            waiting.extend(inner[1])
+def named_digits(claims):
+    """Return for each fact of the claims the digits that they name, in ascending order."""
+    found = {name: [] for name in facts_of(claims)}
+    for inner in inner_first(claims):
+        if inner.label[0] == "fact":
+            found[inner.label[1]].append(inner.label[2])
     return {name: sorted(set(found[name])) for name in found}
 
 
@@ -40,7 +28,7 @@ class Cases:
     """All cases that the claims can tell apart."""
 
     def __init__(self, claims):
-        digits = named_digits(("and", tuple(claims)))
+        digits = named_digits(claims)
         self.names = tuple(digits)
         self.rows = [()]
         for name in digits:
@@ -58,20 +46,28 @@ class Cases:
         """Return the set of cases with this digit at this place."""
         return sum([1 << index for index, row in enumerate(self.rows) if row[place] == digit])
 
-    def satisfying(self, parts):
-        """Return the set of cases that satisfy a fact claim."""
-        if parts[0] == "always":
-            return self.full
-        if parts[0] == "fact":
-            return self._named[(parts[1], parts[2])]
-        if parts[0] == "not":
-            return self.full ^ self.satisfying(parts[1])
-        if parts[0] == "and":
-            return self.satisfying_all(parts[1])
-        found = 0
-        for member in parts[1]:
-            found = found | self.satisfying(member)
+    def _meaning(self, label, inner):
+        """Return the cases that satisfy a claim with this label, from those of what stands in it."""
+        if label[0] == "fact":
+            return self._named[(label[1], label[2])]
+        if label[0] == "not":
+            return self.full ^ inner[0]
+        if label[0] == "or":
+            found = 0
+            for cases in inner:
+                found = found | cases
+            return found
+        found = self.full
+        for cases in inner:
+            found = found & cases
         return found
+
+    def satisfying(self, node):
+        """Return the set of cases that satisfy a fact claim."""
+        found = {}
+        for inner in inner_first((node,)):
+            found[inner] = self._meaning(inner.label, [found[member] for member in inner.inner])
+        return found[node]
 
     def satisfying_all(self, claims):
         """Return the set of cases that satisfy all these fact claims."""

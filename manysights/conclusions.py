@@ -1,6 +1,6 @@
 """What can be concluded in every standing that keeps certain customs."""
 
-from manysights.customs import check_all_plain, custom_parts
+from manysights.customs import check_all_plain, custom_nodes
 from manysights.follows import check_fact_claims, following
 from manysights.under import derivation_under
 
@@ -10,7 +10,7 @@ def follows_under(customs, premises, conclusion):
     pairs = [*premises, conclusion]
     check_all_plain(customs, [view for view, _ in pairs])
     check_fact_claims(pairs)
-    rows = custom_parts(customs)
-    aim = conclusion[0].parts
-    derivations = [derivation_under(rows, aim, view.parts) for view, _ in premises]
+    rows = custom_nodes(customs)
+    aim = conclusion[0].node
+    derivations = [derivation_under(rows, aim, view.node) for view, _ in premises]
     return following(premises, conclusion, rows, derivations)

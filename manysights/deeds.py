@@ -3,78 +3,84 @@
 from manysights.checks import check_name, is_digit
 from manysights.claims import Claim
 from manysights.errors import BadSource, TakenName
+from manysights.forms import Node, same_nodes
 
 
-def lesson_parts(lessons):
-    """Return the lessons with the parts of their views."""
-    found = []
+def checked_lessons(lessons):
+    """Return the parties and the nodes of the views of lessons."""
+    parties, views = [], []
     for party, view in lessons:
         check_name(party)
-        found.append((party, view.parts))
-    return tuple(found)
+        parties.append(party)
+        views.append(view.node)
+    return (tuple(parties), views)
 
 
-def case_parts(index, cases):
-    """Return the cases of the setting with this index, with the parts of their claims."""
+def checked_sources(index, cases):
+    """Return the sources of the setting with this index."""
     found = []
-    for claim, source in cases:
+    for _, source in cases:
         if not is_digit(source):
             if not isinstance(source, str):
                 raise BadSource(index)
             check_name(source)
-        found.append((claim.parts, source))
+        found.append(source)
     return tuple(found)
 
 
-def setting_parts(settings):
-    """Return the settings with the parts of their claims."""
-    found = []
+def checked_settings(settings):
+    """Return pairs of facts and sources, and the nodes of all claims."""
+    found, claims = [], []
     taken = {}
     for index, (fact, cases) in enumerate(settings):
         check_name(fact)
         if fact in taken:
             raise TakenName(fact)
         taken[fact] = True
-        found.append((fact, case_parts(index, cases)))
-    return tuple(found)
+        found.append((fact, checked_sources(index, cases)))
+        claims.extend([claim.node for claim, _ in cases])
+    return (tuple(found), claims)
 
 
 class Deed:
     """What changes a standing, while all parties know that it is done."""
 
-    def __init__(self, parts):
-        self.parts = parts
+    def __init__(self, node):
+        self.node = node
+        self.parts = node.parts
 
     @staticmethod
     def show(lessons):
         """Return the deed that shows views to parties."""
-        return Deed(("show", lesson_parts(lessons)))
+        parties, views = checked_lessons(lessons)
+        return Deed(Node(("show", parties), views))
 
     @staticmethod
     def announce(view):
         """Return the deed that shows the view to every party."""
-        return Deed(("announce", view.parts))
+        return Deed(Node(("announce",), (view.node,)))
 
     @staticmethod
     def call(claim):
         """Return the deed that tells all that the claim holds."""
-        return Deed(("call", claim.parts))
+        return Deed(Node(("call",), (claim.node,)))
 
     @staticmethod
     def change(settings):
         """Return the deed that gives facts other digits."""
-        return Deed(("change", setting_parts(settings)))
+        found, claims = checked_settings(settings)
+        return Deed(Node(("change", found), claims))
 
     @staticmethod
     def forget(party, view):
         """Return the deed after which the party keeps only what the view tells too."""
         check_name(party)
-        return Deed(("forget", party, view.parts))
+        return Deed(Node(("forget", party), (view.node,)))
 
     @staticmethod
     def row(deeds):
         """Return the deed that does the deeds in order."""
-        return Deed(("row", tuple([deed.parts for deed in deeds])))
+        return Deed(Node(("row",), [deed.node for deed in deeds]))
 
     @staticmethod
     def exchange(fact, other):
@@ -86,4 +92,4 @@ class Deed:
         return Deed.row((self, other))
 
     def __eq__(self, other):
-        return isinstance(other, Deed) and self.parts == other.parts
+        return isinstance(other, Deed) and same_nodes(self.node, other.node)

@@ -1,9 +1,10 @@
 """Derivations that one plain view tells another one.
 
-A custom is here a pair of the parts of its view and the name of its party.
+A custom is here a pair of the node of its view and the name of its party.
 """
 
 from manysights.checks import is_whole
+from manysights.forms import Node
 
 
 def step(search, one, two):
@@ -64,19 +65,19 @@ def inner_of_each(one, two, word, values):
     """Return what the values must be for a form with one for each member, or None."""
     if not isinstance(values, (list, tuple)):
         return None
-    if word == "from each" and one[0] == "common" and len(values) == len(one[1]):
-        return [(member, two, value) for member, value in zip(one[1], values)]
-    if word == "to each" and two[0] == "pooled" and len(values) == len(two[1]):
-        return [(one, member, value) for member, value in zip(two[1], values)]
+    if word == "from each" and one.label[0] == "common" and len(values) == len(one.inner):
+        return [(member, two, value) for member, value in zip(one.inner, values)]
+    if word == "to each" and two.label[0] == "pooled" and len(values) == len(two.inner):
+        return [(one, member, value) for member, value in zip(two.inner, values)]
     return None
 
 
 def inner_of_index(one, two, word, index, value):
     """Return what the value must be for a form with one member, or None."""
-    if word == "from" and one[0] == "pooled" and is_index(index, one[1]):
-        return [(one[1][index], two, value)]
-    if word == "to" and two[0] == "common" and is_index(index, two[1]):
-        return [(one, two[1][index], value)]
+    if word == "from" and one.label[0] == "pooled" and is_index(index, one.inner):
+        return [(one.inner[index], two, value)]
+    if word == "to" and two.label[0] == "common" and is_index(index, two.inner):
+        return [(one, two.inner[index], value)]
     return None
 
 
@@ -87,7 +88,7 @@ def inner_of(customs, one, two, form):
     """
     if not isinstance(form, (list, tuple)):
         return None
-    if len(form) == 1 and form[0] == "same" and one[0] == "eyes" and one == two:
+    if len(form) == 1 and form[0] == "same" and one.label[0] == "eyes" and one.label == two.label:
         return []
     if len(form) == 2:
         return inner_of_each(one, two, form[0], form[1])
@@ -95,7 +96,7 @@ def inner_of(customs, one, two, form):
         return inner_of_index(one, two, form[0], form[1], form[2])
     if len(form) == 4 and form[0] == "by" and is_index(form[1], customs):
         view, party = customs[form[1]]
-        return [(one, view, form[2]), (("eyes", party), two, form[3])]
+        return [(one, view, form[2]), (Node(("eyes", party), ()), two, form[3])]
     return None
 
 

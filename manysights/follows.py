@@ -20,7 +20,7 @@ class Following:
 def check_fact_claims(pairs):
     """Raise NotFactClaim if one of the claims is not a fact claim."""
     for _, claim in pairs:
-        if not is_fact_claim(claim.parts):
+        if not is_fact_claim(claim.node):
             raise NotFactClaim()
 
 
@@ -30,11 +30,12 @@ def find_cases(premises, conclusion, used):
     The first case satisfies all premises, the second one those that are used
     but not the conclusion.
     """
-    claims = [claim.parts for _, claim in premises]
-    cases = Cases([*claims, conclusion[1].parts])
+    claims = [claim.node for _, claim in premises]
+    aim = conclusion[1].node
+    cases = Cases([*claims, aim])
     fine = cases.satisfying_all(claims)
     told = [claims[index] for index in used]
-    wrong = cases.satisfying_all([*told, ("not", conclusion[1].parts)])
+    wrong = cases.satisfying_all(told) & (cases.full ^ cases.satisfying(aim))
     if fine == 0 or wrong == 0:
         return None
     return (cases.names, cases.first_of(fine), cases.first_of(wrong))
@@ -51,9 +52,9 @@ def following(premises, conclusion, customs, derivations):
     found = find_cases(premises, conclusion, [index for index, _ in used])
     if found is None:
         return Following(tuple(used), None, None)
-    views = [view.parts for view, _ in premises]
-    names = all_parties([*views, conclusion[0].parts], customs)
-    sights = joined_sights(names, customs, conclusion[0].parts)
+    views = [view.node for view, _ in premises]
+    names = all_parties([*views, conclusion[0].node], customs)
+    sights = joined_sights(names, customs, conclusion[0].node)
     count = sights[names[0]].size
     facts = []
     for name, fine, wrong in zip(*found):
@@ -66,6 +67,6 @@ def follows(premises, conclusion):
     pairs = [*premises, conclusion]
     check_plain([view for view, _ in pairs])
     check_fact_claims(pairs)
-    aim = conclusion[0].parts
-    derivations = [always_derivation(aim, view.parts) for view, _ in premises]
+    aim = conclusion[0].node
+    derivations = [always_derivation(aim, view.node) for view, _ in premises]
     return following(premises, conclusion, (), derivations)

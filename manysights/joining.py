@@ -1,6 +1,6 @@
 """Standings in which two deals are alike in a plain view, and in little else.
 
-A custom is here a pair of the parts of its view and the name of its party.
+A custom is here a pair of the node of its view and the name of its party.
 """
 
 from manysights.naming import parties_of
@@ -11,11 +11,11 @@ from manysights.standings import made_standing
 
 def all_parties(views, customs):
     """Return the parties of plain views and of customs, in ascending order."""
-    more = [view for view, _ in customs] + [("eyes", party) for _, party in customs]
-    return parties_of(("pooled", (*views, *more)))
+    told = list(parties_of(list(views) + [view for view, _ in customs]))
+    return tuple(sorted(set(told + [party for _, party in customs])))
 
 
-def join_deals(parts):
+def join_deals(node):
     """Return a number of deals, and joins (party, deal, other) of them.
 
     If each party does not tell apart what is joined for it, the deals 0 and 1
@@ -23,16 +23,16 @@ def join_deals(parts):
     """
     count = 2
     joins = []
-    waiting = [(parts, 0, 1)]
+    waiting = [(node, 0, 1)]
     while waiting:
-        (word, inside), deal, other = waiting.pop()
-        if word == "eyes":
-            joins.append((inside, deal, other))
-        elif word == "pooled":
-            waiting.extend([(member, deal, other) for member in inside])
+        view, deal, other = waiting.pop()
+        if view.label[0] == "eyes":
+            joins.append((view.label[1], deal, other))
+        elif view.label[0] == "pooled":
+            waiting.extend([(member, deal, other) for member in view.inner])
         else:
             # Going through the members once would favour their order.
-            members = inside + inside
+            members = view.inner + view.inner
             ends = [deal] + list(range(count, count + len(members) - 1)) + [other]
             count += len(members) - 1
             waiting.extend(list(zip(members, ends, ends[1:])))
@@ -69,9 +69,9 @@ def kept(customs, sights):
     return found
 
 
-def joined_sights(names, customs, parts):
+def joined_sights(names, customs, node):
     """Return sights of the parties in which the deals 0 and 1 are alike in the view."""
-    count, joins = join_deals(parts)
+    count, joins = join_deals(node)
     sights = {}
     for name in names:
         sights[name] = joined_sight(count, [(deal, other) for party, deal, other in joins if party == name])

@@ -1,44 +1,52 @@
 """What views mean and where claims hold in a standing.
 
-The functions that begin with `part` take the parts of views and claims, whose
-names the standing has.
+The meaning of a node is the sight of a view, and a list of True and False for
+a claim: whether it holds at the open deal with each position. All names in
+nodes that are passed are in the standing.
 """
 
 from math import gcd
 
+from manysights.forms import inner_first
 from manysights.naming import check_names
 from manysights.plains import combined
 from manysights.sights import Sight
 
+VIEWS = ("eyes", "value", "whether", "when", "worth", "pooled", "common")
 
-def part_sight(standing, parts):
-    """Return the sight that the view means."""
-    word = parts[0]
+
+def meanings_of(standing, nodes):
+    """Return what the nodes mean; what stands in several places is worked out once."""
+    found = {}
+    for node in inner_first(nodes):
+        inner = [found[member] for member in node.inner]
+        if node.label[0] in VIEWS:
+            found[node] = view_meaning(standing, node.label, inner)
+        else:
+            found[node] = claim_meaning(standing, node.label, inner)
+    return [found[node] for node in nodes]
+
+
+def view_meaning(standing, label, inner):
+    """Return the sight of a view with this label, from the meanings of what stands in it."""
+    word = label[0]
     if word == "eyes":
-        return standing.sight(parts[1])
+        return standing.sight(label[1])
     if word == "value":
-        return Sight(standing.digits(parts[1]))
+        return Sight(standing.digits(label[1]))
     if word == "whether":
-        return Sight([int(holding) for holding in part_truths(standing, parts[1])])
+        return Sight([int(holding) for holding in inner[0]])
     if word == "when":
-        return when_sight(standing, parts[1], parts[2])
+        return Sight([mark if holding else -1 for mark, holding in zip(inner[1].marks, inner[0])])
     if word == "worth":
-        return worth_sight(standing, parts[1], parts[2], parts[3])
-    return combined(word, [part_sight(standing, member) for member in parts[1]])
+        return worth_sight(standing.weights(label[1]), inner[0], label[2], inner[1:])
+    return combined(word, inner)
 
 
-def when_sight(standing, claim, view):
-    """Return the sight of a view that is given where the claim holds."""
-    truths = part_truths(standing, claim)
-    marks = part_sight(standing, view).marks
-    return Sight([mark if holding else -1 for mark, holding in zip(marks, truths)])
-
-
-def worth_sight(standing, party, seen, terms):
-    """Return the sight of what the terms are worth to the party in a cell of `seen`."""
-    sight = part_sight(standing, seen)
-    tops = weighed_cells(standing, party, sight, terms)
-    bottoms = cell_sums(sight, standing.weights(party))
+def worth_sight(weights, sight, numbers, rows):
+    """Return the sight of what terms are worth in a cell; the rows are the truths of their claims."""
+    tops = weighed_cells(weights, sight, numbers, rows)
+    bottoms = weighed_cells(weights, sight, (1,), ([True] * sight.size,))
     worths = []
     for top, bottom in zip(tops, bottoms):
         shared = gcd(top, bottom)
@@ -46,45 +54,33 @@ def worth_sight(standing, party, seen, terms):
     return Sight([worths[mark] for mark in sight.marks])
 
 
-def cell_sums(sight, weights):
-    """Return for each cell the sum of the weights of its deals."""
+def weighed_cells(weights, sight, numbers, rows):
+    """Return for each cell the sum of the numbers, times the weights where the rows are true."""
     sums = [0] * len(sight.cells)
-    for mark, weight in zip(sight.marks, weights):
-        sums[mark] += weight
-    return sums
-
-
-def weighed_cells(standing, party, sight, terms):
-    """Return for each cell the sum of the numbers, times the weights where the claims hold."""
-    weights = standing.weights(party)
-    sums = [0] * len(sight.cells)
-    for number, claim in terms:
-        truths = part_truths(standing, claim)
+    for number, truths in zip(numbers, rows):
         for mark, weight, holding in zip(sight.marks, weights, truths):
             if holding:
                 sums[mark] += number * weight
     return sums
 
 
-def part_truths(standing, parts):
-    """Return for each position whether the claim holds at the open deal."""
-    word = parts[0]
+def claim_meaning(standing, label, inner):
+    """Return the truths of a claim with this label, from the meanings of what stands in it."""
+    word = label[0]
     if word == "always":
         return [True] * len(standing.deals)
     if word == "fact":
-        return [digit == parts[2] for digit in standing.digits(parts[1])]
+        return [digit == label[2] for digit in standing.digits(label[1])]
     if word == "known":
-        return known_truths(part_sight(standing, parts[1]), part_truths(standing, parts[2]))
+        return known_truths(inner[0], inner[1])
     if word == "weighs":
-        sight = part_sight(standing, parts[2])
-        sums = weighed_cells(standing, parts[1], sight, parts[3])
-        return [sums[mark] >= 0 for mark in sight.marks]
+        sums = weighed_cells(standing.weights(label[1]), inner[0], label[2], inner[1:])
+        return [sums[mark] >= 0 for mark in inner[0].marks]
     if word == "not":
-        return [not holding for holding in part_truths(standing, parts[1])]
-    rows = [part_truths(standing, member) for member in parts[1]]
+        return [not holding for holding in inner[0]]
     if word == "and":
-        return [all(column) for column in zip(*rows)]
-    return [any(column) for column in zip(*rows)]
+        return [all(column) for column in zip(*inner)]
+    return [any(column) for column in zip(*inner)]
 
 
 def known_truths(sight, truths):
@@ -93,21 +89,30 @@ def known_truths(sight, truths):
     return [mark not in missed for mark in sight.marks]
 
 
+def meaning_of(standing, node):
+    """Return what the node means."""
+    return meanings_of(standing, (node,))[0]
+
+
+def open_where(standing, truths):
+    """Return the open deals at whose positions the truths are True."""
+    return tuple([deal for deal, holding in zip(standing.deals, truths) if holding])
+
+
 def sight_of(standing, view):
     """Return the sight that the view means in the standing."""
-    check_names(standing, view.parts)
-    return part_sight(standing, view.parts)
+    check_names(standing, (view.node,))
+    return meaning_of(standing, view.node)
 
 
 def where(standing, claim):
     """Return the open deals at which the claim holds."""
-    check_names(standing, claim.parts)
-    truths = part_truths(standing, claim.parts)
-    return tuple([deal for deal, holding in zip(standing.deals, truths) if holding])
+    check_names(standing, (claim.node,))
+    return open_where(standing, meaning_of(standing, claim.node))
 
 
 def holds(standing, claim, deal):
     """Tell whether the claim holds at an open deal."""
-    check_names(standing, claim.parts)
+    check_names(standing, (claim.node,))
     place = standing.position(deal)
-    return part_truths(standing, claim.parts)[place]
+    return meaning_of(standing, claim.node)[place]

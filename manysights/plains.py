@@ -1,24 +1,20 @@
 """Plain views: views that are made of eyes by pooled and common alone."""
 
 from manysights.errors import NotPlain
+from manysights.forms import Node, inner_first
+
+PLAIN = ("eyes", "pooled", "common")
 
 
-def is_plain(parts):
+def is_plain(node):
     """Tell whether the view is plain."""
-    waiting = [parts]
-    while waiting:
-        inner = waiting.pop()
-        if inner[0] in ("pooled", "common"):
-            waiting.extend(inner[1])
-        elif inner[0] != "eyes":
-            return False
-    return True
+    return all([inner.label[0] in PLAIN for inner in inner_first((node,))])
 
 
 def check_plain(views):
     """Raise NotPlain if one of the views is not plain."""
     for view in views:
-        if not is_plain(view.parts):
+        if not is_plain(view.node):
             raise NotPlain()
 
 
@@ -30,54 +26,72 @@ def combined(word, sights):
     return sight
 
 
-def plain_sight(parts, sights):
+def plain_sight(node, sights):
     """Return the sight that a plain view means if the parties have these sights."""
-    if parts[0] == "eyes":
-        return sights[parts[1]]
-    return combined(parts[0], [plain_sight(member, sights) for member in parts[1]])
-
-
-def plain_text(parts):
-    """Return the written form of a plain view."""
-    if parts[0] == "eyes":
-        return f"eyes({parts[1]})"
-    texts = [plain_text(member) for member in parts[1]]
-    if parts[0] == "pooled":
-        return "(" + " & ".join(texts) + ")"
-    return "(" + " | ".join(texts) + ")"
+    found = {}
+    for inner in inner_first((node,)):
+        word = inner.label[0]
+        if word == "eyes":
+            found[inner] = sights[inner.label[1]]
+        else:
+            found[inner] = combined(word, [found[member] for member in inner.inner])
+    return found[node]
 
 
 class Plains:
     """Plain views under numbers; equal views have the same number.
 
     The row of a number is the word of the view and what stands in it: the
-    party, or the tuple of the numbers of the members.
+    party, or the tuple of the numbers of the members, which are all less.
     """
 
     def __init__(self):
         self.rows = []
+        self.eyes_counts = []
         self._numbers = {}
+        self._nodes = []
+        self._texts = {}
 
-    def number_of(self, parts):
+    def number_of(self, node):
         """Return the number of a view, a new one if it is new."""
-        if parts[0] == "eyes":
-            return self.number_of_row(parts)
-        members = [self.number_of(member) for member in parts[1]]
-        return self.number_of_row((parts[0], tuple(members)))
+        found = {}
+        for inner in inner_first((node,)):
+            row = inner.label
+            if row[0] != "eyes":
+                row = (row[0], tuple([found[member] for member in inner.inner]))
+            found[inner] = self.number_of_row(row)
+        return found[node]
 
     def number_of_row(self, row):
         """Return the number of the view with this row, a new one if it is new."""
         if row not in self._numbers:
             self._numbers[row] = len(self.rows)
             self.rows.append(row)
+            if row[0] == "eyes":
+                self._nodes.append(Node(row, ()))
+                self.eyes_counts.append(1)
+            else:
+                self._nodes.append(Node(row[:1], [self._nodes[member] for member in row[1]]))
+                self.eyes_counts.append(sum([self.eyes_counts[member] for member in row[1]]))
         return self._numbers[row]
 
-    def parts_of(self, number):
-        """Return the parts of the view with this number."""
+    def node_of(self, number):
+        """Return the node of the view with this number."""
+        return self._nodes[number]
+
+    def text_of(self, number):
+        """Return the written form of the view with this number."""
         word, inside = self.rows[number]
         if word == "eyes":
-            return (word, inside)
-        return (word, tuple([self.parts_of(member) for member in inside]))
+            return f"eyes({inside})"
+        if number not in self._texts:
+            sign = " & " if word == "pooled" else " | "
+            self._texts[number] = "(" + sign.join([self.text_of(member) for member in inside]) + ")"
+        return self._texts[number]
+
+    def rank(self, number):
+        """Return the place of a view in the order of plain views."""
+        return (self.eyes_counts[number], self.text_of(number))
 
     def inside_of(self, number):
         """Return the numbers of the view and of all views in it, each once."""

@@ -1,8 +1,8 @@
 """The shortest form of a plain view."""
 
 from manysights.deriving import AlwaysSearch
-from manysights.naming import names_of, parties_of
-from manysights.plains import Plains, check_plain, plain_text
+from manysights.naming import parties_of
+from manysights.plains import Plains, check_plain
 from manysights.views import View
 
 
@@ -12,17 +12,24 @@ class Shortener:
     def __init__(self):
         self._plains = Plains()
         self._search = AlwaysSearch(self._plains)
+        self._found = {}
 
-    def shortest_parts(self, parts):
-        """Return the parts of the shortest form of a view."""
-        return self._plains.parts_of(self._shortest(self._plains.number_of(parts)))
+    def shortest_node(self, node):
+        """Return the node of the shortest form of a view."""
+        return self._plains.node_of(self.shortest_number(self._plains.number_of(node)))
 
-    def _shortest(self, number):
+    def shortest_number(self, number):
         """Return the number of the shortest form of a view."""
-        word, inside = self._plains.rows[number]
-        if word == "eyes":
-            return number
-        members = self._opened(word, [self._shortest(member) for member in inside])
+        if number not in self._found:
+            word, inside = self._plains.rows[number]
+            self._found[number] = number
+            if word != "eyes":
+                self._found[number] = self.shortest_group(word, [self.shortest_number(member) for member in inside])
+        return self._found[number]
+
+    def shortest_group(self, word, numbers):
+        """Return the number of the shortest form of a group of views in shortest form."""
+        members = self._opened(word, numbers)
         fewer = self._lowered(word, members)
         while fewer != members:
             members = self._opened(word, fewer)
@@ -41,13 +48,8 @@ class Shortener:
         """Return the number of the view with these members, in order."""
         if len(members) == 1:
             return members[0]
-        ordered = sorted(members, key=self._rank)
+        ordered = sorted(members, key=self._plains.rank)
         return self._plains.number_of_row((word, tuple(ordered)))
-
-    def _rank(self, number):
-        """Return the place of a view in the order of plain views."""
-        parts = self._plains.parts_of(number)
-        return (len(names_of(parts)), plain_text(parts))
 
     def _goes(self, word, one, two):
         """Tell whether `two` tells `one`, if the word is pooled, or `one` tells `two`."""
@@ -79,7 +81,7 @@ class Shortener:
 def shortest(view):
     """Return the view in shortest form that is always alike to the view."""
     check_plain((view,))
-    return View(Shortener().shortest_parts(view.parts))
+    return View(Shortener().shortest_node(view.node))
 
 
 def is_shortest(view):
@@ -89,4 +91,4 @@ def is_shortest(view):
 
 def needed_parties(view):
     """Return the parties without whose eyes no view is always alike to this one."""
-    return parties_of(shortest(view).parts)
+    return parties_of((shortest(view).node,))

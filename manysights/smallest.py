@@ -26,12 +26,12 @@ def smallest_parting(one, two, *, most=4):
     """Return the least size, the first standing and a pair that part the views, or None."""
     check_plain((one, two))
     # The search would look at every standing if there is none.
-    if always_derivation(one.parts, two.parts) is not None:
+    if always_derivation(one.node, two.node) is not None:
         return None
-    names = all_parties((one.parts, two.parts), ())
+    names = all_parties((one.node, two.node), ())
     for size in range(1, most + 1):
         every = list(all_sights(size))
-        found = first_parting(one.parts, two.parts, names, every, {})
+        found = first_parting(one.node, two.node, names, every, {})
         if found is not None:
             sights, pair = found
             return (size, standing_of(sights, ()), pair)

@@ -1,6 +1,6 @@
 """Derivations under customs, and standings that keep customs.
 
-A custom is here a pair of the parts of its view and the name of its party.
+A custom is here a pair of the node of its view and the name of its party.
 """
 
 from manysights.deriving import step
@@ -69,7 +69,7 @@ def derivation_under(customs, one, two):
     lefts, rights = plains.inside_of(left), plains.inside_of(right)
     numbers = []
     for view, party in customs:
-        told, eyes = plains.number_of(view), plains.number_of(("eyes", party))
+        told, eyes = plains.number_of(view), plains.number_of_row(("eyes", party))
         numbers.append((told, eyes))
         lefts = lefts + [eyes]
         rights = rights + plains.inside_of(told)

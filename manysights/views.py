@@ -2,7 +2,7 @@
 
 from manysights.checks import check_name
 from manysights.errors import NotGrounded, NoViews
-from manysights.forms import eyes_parts, is_grounded, term_parts
+from manysights.forms import Node, eyes_node, same_nodes, weighing_node
 
 
 def check_any(views):
@@ -11,57 +11,53 @@ def check_any(views):
         raise NoViews()
 
 
-def member_parts(views):
-    """Return the parts of the views, in order."""
-    return tuple([view.parts for view in views])
-
-
-def knowing_parts(party, claim):
-    """Return the parts of the claim that the party knows a claim, from its parts."""
-    return ("known", eyes_parts(party), claim)
+def knowing_view(party, claim):
+    """Return the node of the view of whether the party knows a claim, from its node."""
+    return Node(("whether",), (Node(("known",), (eyes_node(party), claim)),))
 
 
 class View:
     """What somebody sees; in each standing it means a sight."""
 
-    def __init__(self, parts):
-        self.parts = parts
+    def __init__(self, node):
+        self.node = node
+        self.parts = node.parts
 
     @property
     def grounded(self):
         """Whether the deals of the view are never alike across pieces."""
-        return is_grounded(self.parts)
+        return self.node.is_grounded
 
     @staticmethod
     def eyes(party):
         """Return what the party sees."""
-        return View(eyes_parts(party))
+        return View(eyes_node(party))
 
     @staticmethod
     def value(fact):
         """Return the view of the digit of a fact."""
         check_name(fact)
-        return View(("value", fact))
+        return View(Node(("value", fact), ()))
 
     @staticmethod
     def whether(claim):
         """Return the view of whether the claim holds."""
-        return View(("whether", claim.parts))
+        return View(Node(("whether",), (claim.node,)))
 
     @staticmethod
     def when(claim, view):
         """Return the view that is given where the claim holds, and only there."""
-        return View(("when", claim.parts, view.parts))
+        return View(Node(("when",), (claim.node, view.node)))
 
     @staticmethod
     def worth(party, terms, *, seen=None):
         """Return the view of what the terms are worth to the party in a cell of `seen`."""
-        parts = eyes_parts(party)
+        node = eyes_node(party)
         if seen is not None:
             if not seen.grounded:
                 raise NotGrounded(0)
-            parts = seen.parts
-        return View(("worth", party, parts, term_parts(terms)))
+            node = seen.node
+        return View(weighing_node("worth", party, node, terms))
 
     @staticmethod
     def pooled(views):
@@ -69,7 +65,7 @@ class View:
         check_any(views)
         if len(views) == 1:
             return views[0]
-        return View(("pooled", member_parts(views)))
+        return View(Node(("pooled",), [view.node for view in views]))
 
     @staticmethod
     def common(views):
@@ -80,14 +76,14 @@ class View:
                 raise NotGrounded(index)
         if len(views) == 1:
             return views[0]
-        return View(("common", member_parts(views)))
+        return View(Node(("common",), [view.node for view in views]))
 
     @staticmethod
     def answer(party, claim):
         """Return the view of what the party answers if it is asked for the claim."""
-        yes = knowing_parts(party, claim.parts)
-        no = knowing_parts(party, ("not", claim.parts))
-        return View(("pooled", (("whether", yes), ("whether", no))))
+        yes = knowing_view(party, claim.node)
+        no = knowing_view(party, Node(("not",), (claim.node,)))
+        return View(Node(("pooled",), (yes, no)))
 
     def __and__(self, other):
         return View.pooled((self, other))
@@ -96,4 +92,4 @@ class View:
         return View.common((self, other))
 
     def __eq__(self, other):
-        return isinstance(other, View) and self.parts == other.parts
+        return isinstance(other, View) and same_nodes(self.node, other.node)

@@ -152,6 +152,42 @@ def random_claim(random, depth, parties="abc", facts="fg"):
     return Claim.all_of(members) if kind == 5 else Claim.any_of(members)
 
 
+def view_from(parts):
+    """Return the view with these parts."""
+    word = parts[0]
+    if word == "eyes":
+        return View.eyes(parts[1])
+    if word == "value":
+        return View.value(parts[1])
+    if word == "whether":
+        return View.whether(claim_from(parts[1]))
+    if word == "when":
+        return View.when(claim_from(parts[1]), view_from(parts[2]))
+    if word == "worth":
+        terms = [(number, claim_from(claim)) for number, claim in parts[3]]
+        return View.worth(parts[1], terms, seen=view_from(parts[2]))
+    members = [view_from(member) for member in parts[1]]
+    return View.pooled(members) if word == "pooled" else View.common(members)
+
+
+def claim_from(parts):
+    """Return the claim with these parts."""
+    word = parts[0]
+    if word == "always":
+        return Claim.always()
+    if word == "fact":
+        return Claim.fact(parts[1], parts[2])
+    if word == "known":
+        return Claim.known(view_from(parts[1]), claim_from(parts[2]))
+    if word == "weighs":
+        terms = [(number, claim_from(claim)) for number, claim in parts[3]]
+        return Claim.weighs(parts[1], view_from(parts[2]), terms)
+    if word == "not":
+        return ~claim_from(parts[1])
+    members = [claim_from(member) for member in parts[1]]
+    return Claim.all_of(members) if word == "and" else Claim.any_of(members)
+
+
 def random_plain(random, eyes, parties="abc"):
     """Return a random plain view with so many eyes."""
     if eyes == 1:

@@ -10,7 +10,7 @@ from manysights.errors import NotGrounded, UnknownDeal, UnknownFact, UnknownPart
 from manysights.meanings import holds, sight_of, where
 from manysights.standings import Standing
 from manysights.views import View
-from tests.helpers import Fails, random_claim, random_grounded, random_standing, random_view
+from tests.helpers import Fails, random_claim, random_grounded, random_standing, random_view, view_from
 
 A, B, F = View.eyes("a"), View.eyes("b"), View.value("f")
 C = Claim.fact("f", 1)
@@ -129,7 +129,7 @@ class ReasonTest(Fails, unittest.TestCase):
                 self.assertIsNone(found.chain)
                 continue
             members = view.parts[1] if view.parts[0] == "common" else [view.parts]
-            sights = [sight_of(standing, View(parts)) for parts in members]
+            sights = [sight_of(standing, view_from(parts)) for parts in members]
             goals = [standing.position(other) for other in found.cell if not holds(standing, claim, other)]
             chains = [links(sights, standing.position(deal), goal) for goal in goals]
             chains = [chain for chain in chains if chain is not None]

@@ -9,7 +9,7 @@ from manysights.errors import NotPlain
 from manysights.orders import always_alike, always_tells
 from manysights.shortest import is_shortest, needed_parties, shortest
 from manysights.views import View
-from tests.helpers import NOT_PLAIN, Fails, random_plain
+from tests.helpers import NOT_PLAIN, Fails, random_plain, view_from
 
 A, B, C = View.eyes("a"), View.eyes("b"), View.eyes("c")
 
@@ -29,7 +29,7 @@ def written(parts):
 
 def tells(one, two):
     """Tell whether one view always tells another one, both given by their parts."""
-    return always_tells(View(one), View(two)).tells
+    return always_tells(view_from(one), view_from(two)).tells
 
 
 def in_form(parts):
