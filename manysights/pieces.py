@@ -23,7 +23,14 @@ def open_deals(standing, places):
 def pieces(standing):
     """Return the pieces as standings, in ascending order of their least deals."""
     cells = common_sight(standing).cells
+    if len(cells) == 1:
+        return (standing,)
     return tuple([standing.only(open_deals(standing, cell)) for cell in cells])
+
+
+def is_one_piece(standing):
+    """Tell whether the standing has exactly one piece."""
+    return len(common_sight(standing).cells) == 1
 
 
 def piece_of(standing, deal):

@@ -1,6 +1,7 @@
 """The shortest form of a plain view."""
 
 from manysights.deriving import AlwaysSearch
+from manysights.forms import inner_first
 from manysights.naming import parties_of
 from manysights.plains import Plains, check_plain
 from manysights.views import View
@@ -12,20 +13,31 @@ class Shortener:
     def __init__(self):
         self._plains = Plains()
         self._search = AlwaysSearch(self._plains)
-        self._found = {}
 
-    def shortest_node(self, node):
-        """Return the node of the shortest form of a view."""
-        return self._plains.node_of(self.shortest_number(self._plains.number_of(node)))
+    def node_of(self, number):
+        """Return the node of a view."""
+        return self._plains.node_of(number)
 
-    def shortest_number(self, number):
-        """Return the number of the shortest form of a view."""
-        if number not in self._found:
-            word, inside = self._plains.rows[number]
-            self._found[number] = number
-            if word != "eyes":
-                self._found[number] = self.shortest_group(word, [self.shortest_number(member) for member in inside])
-        return self._found[number]
+    def eyes_of(self, party):
+        """Return the number of the eyes of a party."""
+        return self._plains.number_of_row(("eyes", party))
+
+    def shortest_of(self, node, eyes):
+        """Return the number of the shortest form of a view.
+
+        The eyes of the parties in `eyes` stand for the views there, which are
+        numbers of shortest forms.
+        """
+        found = {}
+        for inner in inner_first((node,)):
+            if inner.label[0] != "eyes":
+                members = [found[member] for member in inner.inner]
+                found[inner] = self.shortest_group(inner.label[0], members)
+            elif inner.label[1] in eyes:
+                found[inner] = eyes[inner.label[1]]
+            else:
+                found[inner] = self.eyes_of(inner.label[1])
+        return found[node]
 
     def shortest_group(self, word, numbers):
         """Return the number of the shortest form of a group of views in shortest form."""
@@ -81,7 +93,8 @@ class Shortener:
 def shortest(view):
     """Return the view in shortest form that is always alike to the view."""
     check_plain((view,))
-    return View(Shortener().shortest_node(view.node))
+    shortener = Shortener()
+    return View(shortener.node_of(shortener.shortest_of(view.node, {})))
 
 
 def is_shortest(view):

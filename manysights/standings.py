@@ -24,6 +24,20 @@ def made_standing(deals, facts, parties):
     return made
 
 
+def with_sights(standing, sights):
+    """Return the standing in which the parties have the sights under their names."""
+    facts = [(name, standing.digits(name)) for name in standing.facts]
+    parties = [(name, sights[name], standing.weights(name)) for name in standing.parties]
+    return made_standing(standing.deals, facts, parties)
+
+
+def with_digits(standing, digits):
+    """Return the standing in which the facts have the digits under their names."""
+    facts = [(name, digits[name]) for name in standing.facts]
+    parties = [(name, standing.sight(name), standing.weights(name)) for name in standing.parties]
+    return made_standing(standing.deals, facts, parties)
+
+
 def picked(row, places):
     """Return the items of the row at these places."""
     return tuple([row[place] for place in places])

@@ -4,7 +4,9 @@ import itertools
 from fractions import Fraction
 
 from manysights.claims import Claim
+from manysights.deeds import Deed
 from manysights.errors import DealError
+from manysights.pieces import piece_of, pieces
 from manysights.standings import Standing
 from manysights.views import View
 
@@ -152,6 +154,42 @@ def random_claim(random, depth, parties="abc", facts="fg"):
     return Claim.all_of(members) if kind == 5 else Claim.any_of(members)
 
 
+def random_deed(random, depth, parties="abc", facts="fg", *, calls=True):
+    """Return a random deed of any kind; with calls=False, none in which a call stands."""
+    kind = random.choice("sacxfr" if calls else "saxfr")
+    if kind == "s":
+        count = random.randint(0, 3)
+        return Deed.show([[random.choice(parties), random_view(random, depth, parties, facts)] for _ in range(count)])
+    if kind == "a":
+        return Deed.announce(random_view(random, depth, parties, facts))
+    if kind == "c":
+        return Deed.call(random_claim(random, depth, parties, facts))
+    if kind == "f":
+        return Deed.forget(random.choice(parties), random_view(random, depth, parties, facts))
+    if kind == "r":
+        return Deed.row([random_deed(random, depth, parties, facts, calls=calls) for _ in range(random.randint(0, 2))])
+    settings = []
+    for fact in random.sample(facts, random.randint(0, len(facts))):
+        sources = [random.choice([random.randint(0, 2), random.choice(facts)]) for _ in range(random.randint(0, 3))]
+        settings.append([fact, [[random_claim(random, depth, parties, facts), source] for source in sources]])
+    return Deed.change(settings)
+
+
+def random_plain_deed(random, eyes, parties="abc"):
+    """Return a random plain deed; its views have at most so many eyes."""
+    kind = random.choice("safr")
+    view = random_plain(random, random.randint(1, eyes), parties)
+    if kind == "a":
+        return Deed.announce(view)
+    if kind == "f":
+        return Deed.forget(random.choice(parties), view)
+    if kind == "r":
+        return Deed.row([random_plain_deed(random, eyes, parties) for _ in range(random.randint(0, 2))])
+    count = random.randint(0, 3)
+    views = [random_plain(random, random.randint(1, eyes), parties) for _ in range(count)]
+    return Deed.show([(random.choice(parties), one) for one in views])
+
+
 def view_from(parts):
     """Return the view with these parts."""
     word = parts[0]
@@ -259,6 +297,111 @@ def meant_true(standing, parts, deal):
     if word == "and":
         return all(meant_true(standing, member, deal) for member in parts[1])
     return any(meant_true(standing, member, deal) for member in parts[1])
+
+
+def pieces_near(standing):
+    """Return for each pair of positions whether they are in the same piece, by the words of point 16."""
+    rows = [standing.sight(name).marks for name in standing.parties]
+    return joined(rows, len(standing))
+
+
+def remade(standing, near=None, digits=None):
+    """Return the standing with other sights (tables of alike positions) or digits, under names."""
+    made = Standing(max(standing.deals) + 1).only(standing.deals)
+    for name in standing.facts:
+        made = made.with_fact(name, digits[name] if digits else standing.digits(name))
+    for name in standing.parties:
+        marks = marks_of_near(near[name]) if near and name in near else standing.sight(name).marks
+        made = made.with_party(name, marks, weights=standing.weights(name))
+    return made
+
+
+def meant_single(standing, parts):
+    """Return the standing after a single deed, given by its parts, or None, by the words of point 37."""
+    deals = list(standing)
+    near = {name: [[standing.sight(name).alike(i, j) for j in range(len(deals))] for i in range(len(deals))]
+            for name in standing.parties}
+    if parts[0] == "call":
+        left = [deal for deal in deals if meant_true(standing, parts[1], deal)]
+        return standing.only(left) if left else None
+    if parts[0] in ("show", "announce"):
+        lessons = parts[1] if parts[0] == "show" else [(name, parts[1]) for name in standing.parties]
+        for name, view in lessons:
+            near[name] = [[near[name][i][j] and meant_alike(standing, view, one, two) for j, two in enumerate(deals)]
+                          for i, one in enumerate(deals)]
+        return remade(standing, near)
+    if parts[0] == "forget":
+        same = pieces_near(standing)
+        kept = [[same[i][j] and meant_alike(standing, parts[2], one, two) for j, two in enumerate(deals)]
+                for i, one in enumerate(deals)]
+        near[parts[1]] = joined([marks_of_near(near[parts[1]]), marks_of_near(kept)], len(deals))
+        return remade(standing, near)
+    digits = {name: list(standing.digits(name)) for name in standing.facts}
+    for fact, cases in parts[1]:
+        for place, deal in enumerate(deals):
+            for claim, source in cases:
+                if meant_true(standing, claim, deal):
+                    digits[fact][place] = standing.digit(source, deal) if isinstance(source, str) else source
+                    break
+    return remade(standing, None, digits)
+
+
+def single_parts(parts):
+    """Return the parts of the single deeds of a deed."""
+    return [one for inner in parts[1] for one in single_parts(inner)] if parts[0] == "row" else [parts]
+
+
+def meant_after(standing, deed):
+    """Return the standing after a deed, or None, and how many single deeds were done."""
+    for index, parts in enumerate(single_parts(deed.parts)):
+        end = meant_single(standing, parts)
+        if end is None:
+            return None, index
+        standing = end
+    return standing, len(single_parts(deed.parts))
+
+
+def plain_moves(state, menu):
+    """Return the moves of a state, by the words of point 49."""
+    found = []
+    for index, deed in enumerate(menu):
+        end, _ = meant_after(state, deed)
+        if end is not None:
+            found.extend((index, piece) for piece in pieces(end))
+    return found
+
+
+def plain_reachable(standing, menu):
+    """Return all states that can be reached, by the words of point 50."""
+    found = list(pieces(standing))
+    for state in found:
+        for _, other in plain_moves(state, menu):
+            if other not in found:
+                found.append(other)
+    return found
+
+
+def plain_play(standing, menu, deal, row):
+    """Return the states of a play, by the words of point 51, or the place of a deed that cannot be done."""
+    found = [piece_of(standing, deal)]
+    for place, index in enumerate(row):
+        states = [state for _, state in plain_moves(found[-1], [menu[index]]) if deal in state]
+        if not states:
+            return place
+        found.extend(states)
+    return found
+
+
+def rows_up_to(count, longest):
+    """Yield rows of indexes less than count, in the order of rows."""
+    for length in range(longest + 1):
+        yield from itertools.product(range(count), repeat=length)
+
+
+def digit_step(fact, top):
+    """Return the deed that counts a fact one up, from its top digit back to 0."""
+    cases = [(Claim.fact(fact, digit), (digit + 1) % (top + 1)) for digit in range(top + 1)]
+    return Deed.change([(fact, cases)])
 
 
 def plain_marks(parts, rows):

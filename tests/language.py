@@ -89,6 +89,16 @@ def targets_of(node):
     return found
 
 
+def is_setter(node):
+    """Tell whether a function is the setter of a property."""
+    return any(isinstance(item, ast.Attribute) for item in node.decorator_list)
+
+
+def is_property(node):
+    """Tell whether a function is a property or its setter."""
+    return is_setter(node) or any(getattr(item, "id", None) == "property" for item in node.decorator_list)
+
+
 def walk_own(node):
     """Walk over a node and what is in it, but not into nested functions and lambdas."""
     yield node
@@ -150,6 +160,7 @@ class Package:
         self.by_module = {source.module: source for source in self.sources}
         self.classes = {}
         self.methods = set()
+        self.properties = set()
         self.attributes = set()
         for source in self.sources:
             self._collect(source)
@@ -160,7 +171,7 @@ class Package:
                 self.classes[node.name] = node
                 for inner in node.body:
                     if isinstance(inner, ast.FunctionDef):
-                        self.methods.add(inner.name)
+                        (self.properties if is_property(inner) else self.methods).add(inner.name)
             if isinstance(node, ast.Attribute) and isinstance(node.ctx, ast.Store):
                 self.attributes.add(node.attr)
 
@@ -311,7 +322,7 @@ class Package:
     def _look_class(self, source, node):
         if node.decorator_list or not isinstance(source.parents[node], ast.Module):
             self.fault(source, node, "L5: the class")
-        names = [inner.name for inner in node.body if isinstance(inner, ast.FunctionDef)]
+        names = [inner.name for inner in node.body if isinstance(inner, ast.FunctionDef) and not is_setter(inner)]
         for name in names:
             if names.count(name) > 1:
                 self.fault(source, node, f"L18: {name} is defined twice")
@@ -332,7 +343,7 @@ class Package:
         for default in node.args.defaults + [item for item in node.args.kw_defaults if item]:
             if not plain_value(default):
                 self.fault(source, node, "L4: a default value")
-        if not node.name.startswith("_") and not ast.get_docstring(node):
+        if not node.name.startswith("_") and not is_setter(node) and not ast.get_docstring(node):
             self.fault(source, node, "a docstring is missing")
         if node.name in NOT_NAMES | NOWHERE or (not in_class and node.name in BUILTIN_NAMES):
             self.fault(source, node, f"L17: {node.name}")
@@ -363,7 +374,8 @@ class Package:
             if name == "_":
                 self.fault(source, node, "L12: _ is read")
             known = set(source.defined) | set(source.imports) | self._bound_around(source, node)
-            if name not in known and name not in ALLOWED_BUILTINS:
+            of_setter = isinstance(source.parents[node], ast.Attribute) and source.parents[node].attr == "setter"
+            if name not in known and name not in ALLOWED_BUILTINS and not of_setter:
                 self.fault(source, node, f"L8: {name}")
         if name in self.classes and isinstance(node.ctx, ast.Load):
             parent = source.parents[node]
@@ -385,7 +397,7 @@ class Package:
         if called and name not in METHODS | self.methods:
             self.fault(source, node, f"L25: {name}")
         if not called and isinstance(node.ctx, ast.Load):
-            if name not in self.attributes | self.methods and name != "setter":
+            if name not in self.attributes | self.methods | self.properties and name != "setter":
                 self.fault(source, node, f"L18: {name} is not assigned")
 
     def _look_call(self, source, node):
@@ -439,8 +451,7 @@ class Package:
         waiting = []
         for rows in functions.values():
             for source, node in rows:
-                marked = any(getattr(item, "id", None) == "property" for item in node.decorator_list)
-                if node.name in QUIET or marked:
+                if node.name in QUIET or (is_property(node) and not is_setter(node)):
                     waiting.append((source, node))
         seen = []
         while waiting:
