@@ -24,9 +24,8 @@ def failing_deals(state, node):
 def always(standing, menu, claim, *, limit=500):
     """Return whether the claim holds at every moment of every play."""
     check_names(standing, nodes_of(menu) + [claim.node])
-    states, moves = explored(standing, menu_of(menu), limit)
+    states, moves, starts = explored(standing, menu_of(menu), limit)
     failing = [failing_deals(state, claim.node) for state in states]
-    starts = list(range(len(pieces(standing))))
     for row, members in first_rows(starts, moves, len(menu)):
         deals = [deal for member in members for deal in failing[member]]
         if deals:
@@ -62,10 +61,10 @@ def first_play(standing, menu, claim, deal, *, limit=500):
     """Return the first row of a play of the deal after which the claim holds at it, or None."""
     check_names(standing, nodes_of(menu) + [claim.node])
     standing.position(deal)
-    states, moves = explored(standing, menu_of(menu), limit)
+    states, moves, starts = explored(standing, menu_of(menu), limit)
     own = [[(index, number) for index, number in row if deal in states[number]] for row in moves]
-    starts = [number for number in range(len(pieces(standing))) if deal in states[number]]
-    for row, members in first_rows(starts, own, len(menu)):
+    first = [number for number in starts if deal in states[number]]
+    for row, members in first_rows(first, own, len(menu)):
         state = states[members[0]]
         if meaning_of(state, claim.node)[state.position(deal)]:
             return row

@@ -20,7 +20,7 @@ def moves(state, menu):
 def reachable(standing, menu, *, limit=500):
     """Return all states that can be reached by deeds of the menu."""
     check_names(standing, nodes_of(menu))
-    states, _ = explored(standing, menu_of(menu), limit)
+    states, _, _ = explored(standing, menu_of(menu), limit)
     return tuple(states)
 
 

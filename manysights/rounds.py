@@ -1,10 +1,9 @@
 """Deeds that are repeated for ever."""
 
 from manysights.doing import after_singles, singles_of
-from manysights.errors import HasCall
 from manysights.meanings import meaning_of
 from manysights.naming import check_names
-from manysights.states import nodes_of
+from manysights.states import check_calls, nodes_of
 
 
 class Rounds:
@@ -19,18 +18,6 @@ class Rounds:
         if count < len(self.standings):
             return self.standings[count]
         return self.standings[self.back + (count - self.back) % (len(self.standings) - self.back)]
-
-
-def has_call(singles):
-    """Tell whether one of the single deeds is a call."""
-    return any([node.label[0] == "call" for node in singles])
-
-
-def check_calls(deeds):
-    """Raise HasCall for the first deed that is a call or has one in it."""
-    for index, deed in enumerate(deeds):
-        if has_call(singles_of((deed.node,))):
-            raise HasCall(index)
 
 
 def rounds(standing, deeds):

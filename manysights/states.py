@@ -4,7 +4,7 @@ A menu is here a list of deeds, each as the list of its single deeds.
 """
 
 from manysights.doing import after_singles, singles_of
-from manysights.errors import TooManyStates
+from manysights.errors import HasCall, TooManyStates
 from manysights.pieces import pieces
 
 
@@ -16,6 +16,13 @@ def menu_of(deeds):
 def nodes_of(deeds):
     """Return the nodes of the deeds, in order."""
     return [deed.node for deed in deeds]
+
+
+def check_calls(deeds):
+    """Raise HasCall for the first deed that is a call or has one in it."""
+    for index, singles in enumerate(menu_of(deeds)):
+        if any([node.label[0] == "call" for node in singles]):
+            raise HasCall(index)
 
 
 def states_after(state, singles):
@@ -52,17 +59,13 @@ def moves_from(state, menu, found):
 
 
 def explored(standing, menu, limit):
-    """Return all states that can be reached, and the moves of each of them.
-
-    The first states are the pieces of the standing.
-    """
+    """Return all states that can be reached, the moves of each, and the numbers of the pieces."""
     found = Found(limit)
-    for piece in pieces(standing):
-        found.number_of(piece)
+    starts = [found.number_of(piece) for piece in pieces(standing)]
     moves = []
     while len(moves) < len(found.states):
         moves.append(moves_from(found.states[len(moves)], menu, found))
-    return (found.states, moves)
+    return (found.states, moves, starts)
 
 
 def moved_by(members, moves, index):
