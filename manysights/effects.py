@@ -35,8 +35,6 @@ def same_effect(standing, one, two):
     check_names(standing, (one.node, two.node))
     left, _ = after_singles(standing, singles_of((one.node,)))
     right, _ = after_singles(standing, singles_of((two.node,)))
-    if left is None or right is None:
-        return left is None and right is None
     return left == right
 
 

@@ -11,7 +11,9 @@ def common_sight(standing):
     """Return the sight whose cells are the pieces."""
     common = Sight.everything(len(standing.deals))
     for party in standing.parties:
-        common = common | standing.sight(party)
+        # Nothing is left to join where all deals are alike.
+        if len(common.cells) > 1:
+            common = common | standing.sight(party)
     return common
 
 

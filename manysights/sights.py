@@ -8,18 +8,16 @@ def renumbered(marks):
     numbers = {}
     found = []
     for mark in marks:
-        if mark not in numbers:
-            numbers[mark] = len(numbers)
-        found.append(numbers[mark])
+        found.append(numbers.setdefault(mark, len(numbers)))
     return tuple(found)
 
 
 def listed_cells(marks):
-    """Return the deals of each cell; the marks are numbers of cells."""
-    found = {}
+    """Return the deals of each cell; the marks are numbers of cells, from 0 on."""
+    found = [[] for _ in range(max(marks) + 1)]
     for deal, mark in enumerate(marks):
-        found.setdefault(mark, []).append(deal)
-    return tuple([tuple(cell) for cell in found.values()])
+        found[mark].append(deal)
+    return tuple([tuple(cell) for cell in found])
 
 
 def joined_marks(one, two):

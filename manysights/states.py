@@ -8,6 +8,9 @@ from manysights.errors import HasCall, TooManyStates
 from manysights.pieces import pieces
 
 
+WHOLE = ("change", "forget")
+
+
 def menu_of(deeds):
     """Return the single deeds of each deed."""
     return [singles_of((deed.node,)) for deed in deeds]
@@ -28,7 +31,12 @@ def check_calls(deeds):
 def states_after(state, singles):
     """Return the states that can come after a deed; none if it cannot be done."""
     end, _ = after_singles(state, singles)
-    return () if end is None else pieces(end)
+    if end is None:
+        return ()
+    # Changes and forgettings take nothing apart.
+    if all([node.label[0] in WHOLE for node in singles]):
+        return (end,)
+    return pieces(end)
 
 
 class Found:

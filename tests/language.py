@@ -485,6 +485,8 @@ class Package:
             if isinstance(inner, ast.Call) and isinstance(inner.func, ast.Attribute):
                 value = inner.func.value
                 nested = isinstance(value, ast.Call) and getattr(value.func, "attr", None) == "setdefault"
+                if isinstance(value, ast.Subscript):
+                    nested = getattr(value.value, "id", None) in self._lists_of_lists(node)
                 if inner.func.attr in MODIFIERS and not nested and getattr(value, "id", None) not in own:
                     self.fault(source, inner, "L5 Operators: something is modified")
             if isinstance(inner, ast.Call) and isinstance(inner.func, ast.Name):
@@ -492,6 +494,16 @@ class Package:
                     self.fault(source, inner, "L5 Operators: a parameter is called")
             if isinstance(inner, (ast.Yield, ast.YieldFrom, ast.Lambda)):
                 self.fault(source, inner, "L5 Operators: yield or lambda")
+
+    def _lists_of_lists(self, node):
+        """Return the names that are assigned once, as a new list of new lists."""
+        names = targets_of(node)
+        found = set()
+        for inner in ast.walk(node):
+            if isinstance(inner, ast.Assign) and isinstance(inner.value, ast.ListComp):
+                if isinstance(inner.value.elt, ast.List) and not inner.value.elt.elts:
+                    found |= {name for name in targets_of(inner.targets[0]) if names.count(name) == 1}
+        return found
 
     def _own_values(self, node):
         found, other = set(), set(parameters_of(node))

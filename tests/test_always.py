@@ -121,6 +121,12 @@ class AlwaysTest(Fails, unittest.TestCase):
         self.assert_error(TooManyStates, {"limit": 99}, always, counter(), menu, Claim.always(), limit=99)
         self.assert_error(TooManyStates, {"limit": 99}, always, counter(), menu, ~ZERO, limit=99)
         self.assert_error(TooManyStates, {"limit": 99}, first_play, counter(), menu, ZERO, 0, limit=99)
+        five, six = (menu + [digit_step("h", top)] for top in (4, 5))
+        standing = counter().with_fact("h", [0, 0])
+        self.assertIs(always(standing, five, Claim.always()).sure, True)
+        self.assertEqual(first_play(standing, five, ZERO, 0), ())
+        self.assert_error(TooManyStates, {"limit": 500}, always, standing, six, Claim.always())
+        self.assert_error(TooManyStates, {"limit": 500}, first_play, standing, six, ZERO, 0)
 
     def test_names(self):
         menu = [NEVER, Deed.announce(View.value("x"))]
@@ -166,6 +172,11 @@ class TableTest(Fails, unittest.TestCase):
         for state in bad:
             self.assertIs(is_always_table(counter(), menu, claim, table + (state,)), False)
         self.assertIs(is_always_table(counter(), menu, ~Claim.fact("f", 3), table), False)
+        # A standing of two pieces is no state, even if all that it leads to stands there.
+        apart = counter().without_party("a").with_party("a", [0, 1])
+        idle = [counter(), *pieces(apart)]
+        self.assertIs(is_always_table(counter(), [Deed.row([])], Claim.always(), idle), True)
+        self.assertIs(is_always_table(counter(), [Deed.row([])], Claim.always(), idle + [apart]), False)
         lone = Standing(1).with_party("b", [0])
         self.assertIs(is_always_table(counter(), [Deed.forget("a", F)], Claim.always(), [counter(), lone]), False)
         # A standing of another kind may stand there if it has all the names.

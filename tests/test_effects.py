@@ -109,6 +109,9 @@ class EffectsTest(Fails, unittest.TestCase):
         for call in (learners, losers, is_idle):
             self.assert_error(UnknownParty, {"name": "q"}, call, standing, NEVER >> Deed.forget("q", View.value("z")))
         wrong = Deed.announce(View.value("z"))
+        hidden = NEVER >> Deed.forget("q", F)
+        self.assert_error(UnknownParty, {"name": "q"}, same_effect, standing, hidden, NEVER)
+        self.assert_error(UnknownParty, {"name": "q"}, same_effect, standing, NEVER, hidden)
         self.assert_error(UnknownFact, {"name": "z"}, same_effect, standing, NEVER, wrong)
         self.assert_error(UnknownFact, {"name": "z"}, same_effect, standing, wrong, Deed.forget("q", F))
         self.assert_error(UnknownFact, {"name": "z"}, needed_deeds, standing, [NEVER, wrong, Deed.forget("q", F)])

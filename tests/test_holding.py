@@ -106,6 +106,14 @@ class HoldTest(Fails, unittest.TestCase):
         self.assertIs(self.check(apart, [WAIT], [to(4, fact(1))], ~fact(4)).sure, False)
         self.assertEqual(len(self.check(apart, [WAIT], [to(4, fact(1))], ~fact(4)).steps), 1)
 
+    def test_each_piece_after_our_deed(self):
+        # What the first deed shows spoils one of the pieces after it; waiting spoils all.
+        shown = Claim.knows("a", fact(1))
+        theirs = [Deed.change([("f", [(fact(0, "g") | shown, 4)])])]
+        safe = Deed.change([("g", [(Claim.always(), 1)])])
+        found = self.check(table(0, 1), [Deed.announce(View.value("f")) >> safe, safe], theirs, ~fact(4))
+        self.assertEqual((found.sure, found.steps[0]), (True, (table(0, 1), 1)))
+
     def test_against_a_search(self):
         chance = random.Random(62)
         count, ranks, choices = [0, 0], {}, {}
@@ -172,7 +180,7 @@ class TablesTest(Fails, unittest.TestCase):
         self.assertIs(is_holding(table(), ours, theirs, claim, right + [(far, 1), (order, 1)]), True)
         self.assertIs(is_holding(table(), ours, theirs, claim, right + [(far, 1)]), False)
         self.assertIs(is_holding(table(), ours, theirs, claim, right + [(near, 1)]), False)
-        for row in ((states[1], None), (states[1], 0), (states[1], 2), (states[1], -1), (states[3], None)):
+        for row in ((states[1], None), (states[1], 0), (states[1], 2), (states[1], -1), (states[3], None), (table(2, 2), 1)):
             self.assertIs(is_holding(table(), ours, theirs, claim, right + [row]), False)
         self.assertIs(is_holding(table(), ours, theirs, claim, right + [(states[4], 1)]), True)
         self.assertIs(is_holding(table(), ours, theirs, claim, right[1:]), False)

@@ -116,6 +116,12 @@ class AgainTest(Fails, unittest.TestCase):
         found = self.check(table(), ours + [to(3, fact(0))], [to(4, fact(0)), to(0, fact(3))], fact(0) | fact(4))
         self.assertIs(found.sure, True)
 
+    def test_ranks_stay_among_the_states(self):
+        # The quickest goal is one after which they stop us.
+        ours = [to(1, fact(0)), to(2, fact(0)), to(3, fact(2))]
+        found = self.check(table(), ours, [to(4, fact(1))], fact(1) | fact(3))
+        self.assertEqual((found.sure, found.steps[0]), (True, (table(), 1, 2)))
+
     def test_against_a_search(self):
         chance = random.Random(64)
         count, levels, ranks, choices = [0, 0], {}, {}, {}

@@ -147,9 +147,12 @@ class TellingTest(Fails, unittest.TestCase):
             self.assert_error(UnknownParty, {"name": "q"}, call, table(), ["a"], secrets, wrong)
             self.assert_error(UnknownFact, {"name": "x"}, call, table(), ["a"], [(["a"], Claim.fact("x", 1))] + secrets, wrong)
             self.assert_error(UnknownParty, {"name": "p"}, call, table(), ["a"], secrets[1:], wrong)
-            self.assert_error(SizesDiffer, {"one": 4, "two": 3}, call, table(), ["a"], [], wrong)
+            for hearers in ([], ["a"]):
+                self.assert_error(SizesDiffer, {"one": 4, "two": 3}, call, table(), hearers, [], wrong)
+                self.assert_error(SizesDiffer, {"one": 4, "two": 5}, call, table(), hearers, [], Sight.nothing(5))
         self.assert_error(UnknownParty, {"name": "h"}, told, table(), ["a", "h", "i"], wrong)
-        self.assert_error(SizesDiffer, {"one": 4, "two": 3}, told, table(), ["a"], wrong)
+        for hearers in ([], ["a"]):
+            self.assert_error(SizesDiffer, {"one": 4, "two": 3}, told, table(), hearers, wrong)
         self.assert_error(UnknownParty, {"name": "h"}, finest_tellings, table(), ["h"], secrets)
         self.assert_error(UnknownParty, {"name": "q"}, finest_tellings, table(), [], secrets)
 
