@@ -92,7 +92,7 @@ def always_node():
 def weighing_node(word, party, seen, terms):
     """Return the node of a worth or of weighing terms in the cells of `seen`."""
     numbers = tuple([number for number, _ in terms])
-    return Node((word, party, numbers), (seen, *[claim.node for _, claim in terms]))
+    return Node((word, party, numbers), [seen] + [claim.node for _, claim in terms])
 
 
 def group_node(word, inner):

@@ -1,7 +1,7 @@
 """Leading nodes back over deeds: what says before a deed what a node says after it."""
 
 from manysights.doing import singles_of
-from manysights.forms import Node, eyes_node, group_node, inner_first
+from manysights.forms import Node, always_node, eyes_node, group_node, inner_first
 
 
 def lessons_of(single, parties):
@@ -33,10 +33,24 @@ def eyes_before(single, parties):
     return {name: Node(("pooled",), (eyes_node(name), *lessons[name])) for name in lessons}
 
 
+def is_always(node):
+    """Tell whether the claim is the one that holds everywhere."""
+    return node.label[0] == "always"
+
+
+def given_claim(source, digit):
+    """Return the claim that the source gives this digit."""
+    if isinstance(source, str):
+        return Node(("fact", source, digit), ())
+    return always_node() if source == digit else Node(("not",), (always_node(),))
+
+
 def digit_case(claim, source, digit, other):
     """Return the claim of a digit where the source gives it if the claim holds, otherwise the other claim."""
+    if is_always(claim):
+        return given_claim(source, digit)
     if isinstance(source, str):
-        here = Node(("and",), (claim, Node(("fact", source, digit), ())))
+        here = Node(("and",), (claim, given_claim(source, digit)))
         return Node(("or",), (here, Node(("and",), (Node(("not",), (claim,)), other))))
     if source == digit:
         return Node(("or",), (claim, other))
@@ -52,7 +66,8 @@ class Change:
         place = 0
         for fact, sources in single.label[1]:
             end = place + len(sources)
-            self._cases[fact] = list(zip(single.inner[place:end], sources))
+            if end > place:
+                self._cases[fact] = list(zip(single.inner[place:end], sources))
             place = end
 
     def claim_of(self, fact, digit):
@@ -64,17 +79,22 @@ class Change:
             self._claims[(fact, digit)] = found
         return self._claims[(fact, digit)]
 
+    def view_of(self, fact):
+        """Return the view of the digit that the fact has after the change."""
+        claim, source = self._cases[fact][0]
+        if is_always(claim) and isinstance(source, str):
+            return Node(("value", source), ())
+        # Where none of these nine digits stands, there is the tenth one.
+        claims = [self.claim_of(fact, digit) for digit in range(9)]
+        return Node(("pooled",), [Node(("whether",), (told,)) for told in claims])
+
     def leaf_before(self, node):
         """Return what says before the change what a view or claim of a fact says after it, or None."""
         if len(node.label) == 1 or node.label[1] not in self._cases:
             return None
         if node.label[0] == "fact":
             return self.claim_of(node.label[1], node.label[2])
-        if node.label[0] == "value":
-            # Where none of these nine digits stands, there is the tenth one.
-            claims = [self.claim_of(node.label[1], digit) for digit in range(9)]
-            return Node(("pooled",), [Node(("whether",), (claim,)) for claim in claims])
-        return None
+        return self.view_of(node.label[1]) if node.label[0] == "value" else None
 
 
 def node_before_single(node, single, parties):

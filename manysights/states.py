@@ -7,7 +7,6 @@ from manysights.doing import after_singles, singles_of
 from manysights.errors import HasCall, TooManyStates
 from manysights.pieces import pieces
 
-
 WHOLE = ("change", "forget")
 
 

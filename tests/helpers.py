@@ -299,6 +299,44 @@ def meant_true(standing, parts, deal):
     return any(meant_true(standing, member, deal) for member in parts[1])
 
 
+def names_in(parts):
+    """Return pairs of P or F and a name in parts, in the order of the written form (points 107 to 109)."""
+    word = parts[0]
+    found = []
+    if word in ("eyes", "worth", "weighs", "forget"):
+        found.append(("P", parts[1]))
+    elif word in ("value", "fact"):
+        found.append(("F", parts[1]))
+    if word in ("whether", "not", "announce", "call"):
+        found += names_in(parts[1])
+    elif word in ("when", "known"):
+        found += names_in(parts[1]) + names_in(parts[2])
+    elif word in ("worth", "weighs"):
+        found += names_in(parts[2]) + [pair for _, claim in parts[3] for pair in names_in(claim)]
+    elif word == "forget":
+        found += names_in(parts[2])
+    elif word in ("pooled", "common", "and", "or", "row"):
+        found += [pair for inner in parts[1] for pair in names_in(inner)]
+    elif word == "show":
+        for party, view in parts[1]:
+            found += [("P", party)] + names_in(view)
+    elif word == "change":
+        for fact, cases in parts[1]:
+            found.append(("F", fact))
+            for claim, source in cases:
+                found += names_in(claim) + ([("F", source)] if isinstance(source, str) else [])
+    return found
+
+
+def first_unknown(standing, terms):
+    """Return the first name in views, claims and deeds that the standing lacks, as kind and name, or None."""
+    for term in terms:
+        for kind, name in names_in(term.parts):
+            if name not in (standing.parties if kind == "P" else standing.facts):
+                return kind, name
+    return None
+
+
 def pieces_near(standing):
     """Return for each pair of positions whether they are in the same piece, by the words of point 16."""
     rows = [standing.sight(name).marks for name in standing.parties]

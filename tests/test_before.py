@@ -14,7 +14,7 @@ from manysights.meanings import holds, sight_of, where
 from manysights.standings import Standing
 from manysights.views import View
 from tests.helpers import NO_NAMES, Fails, random_claim, random_deed, random_plain, random_plain_deed
-from tests.helpers import random_standing, random_view
+from tests.helpers import claim_from, random_standing, random_view, view_from
 
 A, B, F = View.eyes("a"), View.eyes("b"), View.value("f")
 
@@ -78,8 +78,21 @@ class BeforeTest(Fails, unittest.TestCase):
             view = random_plain(chance, chance.randint(1, 4))
             told = view_before(view, random_plain_deed(chance, 3), parties=["a", "b", "c"])
             self.assertTrue(is_plain_parts(told.parts))
+            self.assertEqual(view_from(told.parts), told)
         alone = view_before(A, Deed.forget("a", A), parties=["a"])
         self.assertTrue(is_plain_parts(alone.parts))
+        self.assertEqual(view_from(alone.parts), alone)
+
+    def test_parts_are_those_of_a_view(self):
+        chance = random.Random(47)
+        for _ in range(200):
+            parties = chance.choice(["a", "ab"])
+            view, deed = random_view(chance, 2, parties), random_deed(chance, 1, parties)
+            told = view_before(view, deed, parties=list(parties))
+            self.assertEqual(view_from(told.parts), told)
+            claim = random_claim(chance, 2, parties)
+            held = claim_before(claim, deed, parties=list(parties))
+            self.assertEqual(claim_from(held.parts), held)
 
     def test_errors(self):
         deed = Deed.announce(View.eyes("c")) >> Deed.forget("d", View.eyes("e"))

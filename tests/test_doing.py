@@ -7,13 +7,14 @@ import unittest
 from manysights.claims import Claim
 from manysights.deeds import Deed
 from manysights.doing import after, possible_at
+from manysights.effects import is_idle
 from manysights.errors import NotPossible, UnknownFact, UnknownParty
 from manysights.meanings import sight_of
 from manysights.pieces import pieces, piece_of
 from manysights.sights import Sight
 from manysights.standings import Standing
 from manysights.views import View
-from tests.helpers import Fails, meant_after, random_deed, random_standing
+from tests.helpers import Fails, first_unknown, meant_after, random_deed, random_standing
 
 A, B, F, G = View.eyes("a"), View.eyes("b"), View.value("f"), View.value("g")
 YES, NEVER = Claim.always(), ~Claim.always()
@@ -133,6 +134,22 @@ class DoingTest(Fails, unittest.TestCase):
         row = Deed.call(NEVER) >> Deed.announce(View.worth("a", [(1, Claim.knows("c", Claim.fact("h", 1)))]))
         for call in (after, possible_at):
             self.assert_error(UnknownParty, {"name": "c"}, call, table(), row)
+
+    def test_names_of_random_deeds(self):
+        chance = random.Random(39)
+        count = 0
+        for _ in range(600):
+            deed = Deed.call(~Claim.always()) >> random_deed(chance, chance.randint(0, 3), "abcd", "fghi")
+            standing = random_standing(chance, most=3, parties="abc"[:chance.randint(1, 3)], facts="fgh")
+            first = first_unknown(standing, [deed])
+            if first is None:
+                self.assertEqual(possible_at(standing, deed), ())
+            else:
+                kind = UnknownParty if first[0] == "P" else UnknownFact
+                for call in (after, possible_at, is_idle):
+                    self.assert_error(kind, {"name": first[1]}, call, standing, deed)
+                count += 1
+        self.assertGreater(count, 200)
 
     def test_largest(self):
         start = time.time()

@@ -196,7 +196,7 @@ class TellsAfterTest(Fails, unittest.TestCase):
                 if found:
                     self.assertTrue(tells(sight_of(after(standing, deed), one), sight_of(standing, two)))
             if not found:
-                part = always_tells(view_before(one, deed, parties=parties), two).standing
+                part = always_tells(shortest(view_before(one, deed, parties=parties)), two).standing
                 for name in set(parties) - set(part.parties):
                     part = part.with_party(name, [0] * len(part))
                 part = shaken(part, parties)
