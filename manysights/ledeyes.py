@@ -9,6 +9,7 @@ from manysights.leading import eyes_before
 from manysights.orders import always_derivation
 from manysights.plains import check_plain, is_plain
 from manysights.shortest import Shortener
+from manysights.thinning import Thinning
 from manysights.views import View
 
 
@@ -73,8 +74,9 @@ class Sameness:
 
 def parting_standing(one, two, parties):
     """Return a standing of the parties in which the sights of two nodes that are not always alike differ."""
-    node = one if always_derivation(one, two) is None else two
-    return standing_of(joined_sights(parties, (), node), ())
+    if always_derivation(one, two) is not None:
+        one, two = two, one
+    return standing_of(joined_sights(parties, (), Thinning(two).thin(one)), ())
 
 
 def always_same(one, two, *, parties):

@@ -113,6 +113,7 @@ class SamenessTest(Fails, unittest.TestCase):
             self.assertTrue(always_alike(*views))
         self.assertEqual(sorted(found.standing.parties), sorted(parties))
         self.assertEqual(found.standing.facts, ())
+        self.assertLess(len(found.standing), 100)
         self.assert_well_formed(found.standing)
         ends = [after(found.standing, deed).sight(found.party) for deed in (one, two)]
         self.assertNotEqual(ends[0], ends[1])
@@ -219,6 +220,7 @@ class TellsAfterTest(Fails, unittest.TestCase):
             if not found.same:
                 ends = [after(found.standing, deed).sight(found.party) for deed in (Deed.row(deeds), other)]
                 self.assertNotEqual(ends[0], ends[1])
+                self.assertLess(len(found.standing), 200)
             self.assertLessEqual(len(fewest_deeds(deeds, parties=names)), 4)
             self.assertIs(tells_after(Deed.row(deeds), random_plain(chance, 8, names), View.common(
                 [View.eyes(name) for name in names]), parties=names), True)
