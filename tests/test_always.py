@@ -179,6 +179,10 @@ class TableTest(Fails, unittest.TestCase):
         self.assertIs(is_always_table(counter(), [Deed.row([])], Claim.always(), idle + [apart]), False)
         lone = Standing(1).with_party("b", [0])
         self.assertIs(is_always_table(counter(), [Deed.forget("a", F)], Claim.always(), [counter(), lone]), False)
+        forget = [Deed.forget("a", F)]
+        for lone in (Standing(1).with_party("a", [0]), Standing(1).with_fact("f", [0]).with_party("b", [0])):
+            self.assertIs(is_always_table(counter(), forget, Claim.always(), [counter(), lone]), False)
+            self.assertIs(is_always_table(counter(), [Deed.row([])], Claim.knows("a", ZERO), [counter(), lone]), False)
         # A standing of another kind may stand there if it has all the names.
         self.assertIs(is_always_table(counter(), [Deed.row([])], Claim.always(), [counter(), lone]), True)
 
