@@ -38,7 +38,7 @@ class Thinning:
         found = list(members)
         for member in members:
             rest = [one for one in found if one != member]
-            if rest and self._parts_at(place, self._group("common", rest)):
+            if self._parts_at(place, self._group("common", rest)):
                 found = rest
         return found
 
@@ -50,8 +50,6 @@ class Thinning:
         members = list(inside)
         if word == "common":
             members = self._fewer(members, place)
-        if len(members) == 1:
-            return self._thin_at(place, members[0])
         for index in range(len(members)):
             members[index] = self._thin_at(place + [(word, list(members), index)], members[index])
         return self._group(word, members)

@@ -24,6 +24,9 @@ class ThinningTest(unittest.TestCase):
         self.assertEqual(thin(View.common([A, B, C]) & D, each), (B | C) & D)
         self.assertEqual(thin((A & (B | C)) | B, A), B)
         self.assertEqual(thin(A & (B | (C & (B | D))), B), View.pooled([A, C & D]))
+        # A common view deep inside is judged by the whole view around it.
+        deep = View.common([(B | C) & D, C, A])
+        self.assertEqual(thin(B & deep, View.common([B & D, A, C])), B & (((B | C) & D) | A))
 
     def test_random(self):
         chance = random.Random(46)
