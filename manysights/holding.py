@@ -1,8 +1,7 @@
 """Claims that we can make hold for ever, whatever others do."""
 
-from manysights.pieces import pieces
 from manysights.strong import backward
-from manysights.turns import Positions, Turns, check_turns, has_pieces, holds_in
+from manysights.turns import Positions, Turns, check_turns, has_pieces, has_start, holds_in, least_under
 
 
 class Holding:
@@ -70,14 +69,12 @@ def hold(standing, ours, theirs, claim, *, limit=500):
     losing = Losing(board)
     losing.work_out([number for number, holding in enumerate(board.truths(claim)) if not holding])
     ranks = losing.ranks
-    steps, bad = [], []
+    steps = []
     for number, state in enumerate(board.states):
         if ranks[0][number] is None:
             steps.append((state, holding_choice(board.choices[number], ranks)))
-        found = [(state, turn, ranks[turn][number]) for turn in (0, 1)]
-        bad.extend([row for row in found if row[2] is not None])
     sure = all([ranks[0][number] is None for number in board.starts])
-    return Holding(sure, tuple(steps), tuple(bad))
+    return Holding(sure, tuple(steps), board.triples(ranks))
 
 
 def keeps_on(turns, state, choice, claim, listed):
@@ -96,15 +93,10 @@ def is_holding(standing, ours, theirs, claim, steps):
     """Tell whether the table of pairs shows that we hold the claim."""
     check_turns(standing, ours, theirs, (claim,))
     listed = {state.key: True for state, _ in steps}
-    if not has_pieces(pieces(standing), listed):
+    if not has_pieces(standing, listed):
         return False
     turns = Turns(ours, theirs)
     return all([keeps_on(turns, state, choice, claim, listed) for state, choice in steps])
-
-
-def is_below(key, turn, rank, least):
-    """Tell whether the table has this position with a lesser rank."""
-    return (key, turn) in least and least[(key, turn)] < rank
 
 
 def is_failing(turns, step, claim, least):
@@ -112,24 +104,14 @@ def is_failing(turns, step, claim, least):
     state, turn, rank = step
     if rank < 0:
         return False
-    if not holds_in(state, claim):
-        return True
-    if turn == 1:
-        return any([is_below(key, 0, rank, least) for key in turns.reply_keys(state)])
-    for choice in turns.all_choices():
-        if not any([is_below(other.key, 1, rank, least) for other in turns.after_choice(state, choice)]):
-            return False
-    return True
+    return not holds_in(state, claim) or turns.leads_within(state, turn, rank - 1, least)
 
 
 def is_no_holding(standing, ours, theirs, claim, bad):
     """Tell whether the table of triples shows that we cannot hold the claim."""
     check_turns(standing, ours, theirs, (claim,))
-    least = {}
-    for state, turn, rank in bad:
-        key = (state.key, turn)
-        least[key] = min(rank, least.get(key, rank))
-    if not any([(piece.key, 0) in least for piece in pieces(standing)]):
+    least = least_under([((state.key, turn), rank) for state, turn, rank in bad])
+    if not has_start(standing, least):
         return False
     turns = Turns(ours, theirs)
     return all([is_failing(turns, step, claim, least) for step in bad])

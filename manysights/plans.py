@@ -1,8 +1,7 @@
 """Plans: goals that we can reach whatever others do, and what they cost."""
 
-from manysights.pieces import pieces
 from manysights.pricing import first_choice, greatest, priced
-from manysights.turns import Positions, Turns, check_turns, has_pieces, holds_in
+from manysights.turns import Positions, Turns, check_turns, has_pieces, has_start, holds_in, is_within, least_under
 
 
 class Plan:
@@ -61,7 +60,7 @@ def fits(turns, step, goal, keep, costs, least):
         if not holds_in(other, keep):
             return False
         for key in turns.reply_keys(other):
-            if key not in least or least[key] > rest:
+            if not is_within(key, rest, least):
                 return False
     return True
 
@@ -70,11 +69,8 @@ def is_plan(standing, ours, theirs, goal, steps, *, keep=None, costs=None):
     """Tell whether the table of triples shows a plan."""
     check_turns(standing, ours, theirs, (goal, keep))
     paid = costs_of(ours, costs)
-    least = {}
-    for state, _, price in steps:
-        key = state.key
-        least[key] = min(price, least.get(key, price))
-    if not has_pieces(pieces(standing), least):
+    least = least_under([(state.key, price) for state, _, price in steps])
+    if not has_pieces(standing, least):
         return False
     turns = Turns(ours, theirs)
     return all([fits(turns, step, goal, keep, paid, least) for step in steps])
@@ -98,7 +94,7 @@ def is_no_plan(standing, ours, theirs, goal, bad, *, keep=None):
     """Tell whether the table of positions shows that there is no plan."""
     check_turns(standing, ours, theirs, (goal, keep))
     listed = {(state.key, turn): True for state, turn in bad}
-    if not any([(piece.key, 0) in listed for piece in pieces(standing)]):
+    if not has_start(standing, listed):
         return False
     turns = Turns(ours, theirs)
     return all([is_lost(turns, state, turn, goal, keep, listed) for state, turn in bad])

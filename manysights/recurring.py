@@ -1,9 +1,8 @@
 """Goals that we can reach again and again, whatever others do."""
 
-from manysights.pieces import pieces
 from manysights.pricing import first_choice, priced
 from manysights.strong import backward
-from manysights.turns import Positions, Turns, check_turns, has_pieces, holds_in
+from manysights.turns import Positions, Turns, check_turns, has_pieces, has_start, holds_in, least_under
 
 
 class Again:
@@ -110,13 +109,11 @@ def again(standing, ours, theirs, goal, *, limit=500):
     levels = leveling.levels
     fine = [level is None for level in levels[0]]
     ranks, worths = priced(board, fine, [1] * (len(ours) + 1), [number for number in goals if fine[number]])
-    steps, bad = [], []
+    steps = []
     for number, state in enumerate(board.states):
         if fine[number]:
             steps.append((state, choice_at(board.choices[number], worths, ranks[number]), ranks[number]))
-        found = [(state, turn, levels[turn][number]) for turn in (0, 1)]
-        bad.extend([row for row in found if row[2] is not None])
-    return Again(all([fine[number] for number in board.starts]), tuple(steps), tuple(bad))
+    return Again(all([fine[number] for number in board.starts]), tuple(steps), board.triples(levels))
 
 
 def goes_on(turns, step, goal, least):
@@ -134,19 +131,11 @@ def goes_on(turns, step, goal, least):
 def is_again(standing, ours, theirs, goal, steps):
     """Tell whether the table of triples shows that we can reach the goal again and again."""
     check_turns(standing, ours, theirs, (goal,))
-    least = {}
-    for state, _, rank in steps:
-        key = state.key
-        least[key] = min(rank, least.get(key, rank))
-    if not has_pieces(pieces(standing), least):
+    least = least_under([(state.key, rank) for state, _, rank in steps])
+    if not has_pieces(standing, least):
         return False
     turns = Turns(ours, theirs)
     return all([goes_on(turns, step, goal, least) for step in steps])
-
-
-def is_within(key, turn, level, least):
-    """Tell whether the table has this position with at most this level."""
-    return (key, turn) in least and least[(key, turn)] <= level
 
 
 def is_bounded(turns, step, goal, least):
@@ -154,23 +143,15 @@ def is_bounded(turns, step, goal, least):
     state, turn, level = step
     if level < 1:
         return False
-    if turn == 1:
-        return any([is_within(key, 0, level, least) for key in turns.reply_keys(state)])
-    bound = level - 1 if holds_in(state, goal) else level
-    for choice in turns.all_choices():
-        if not any([is_within(other.key, 1, bound, least) for other in turns.after_choice(state, choice)]):
-            return False
-    return True
+    bound = level - 1 if turn == 0 and holds_in(state, goal) else level
+    return turns.leads_within(state, turn, bound, least)
 
 
 def is_no_again(standing, ours, theirs, goal, levels):
     """Tell whether the table of triples shows that we cannot reach the goal again and again."""
     check_turns(standing, ours, theirs, (goal,))
-    least = {}
-    for state, turn, level in levels:
-        key = (state.key, turn)
-        least[key] = min(level, least.get(key, level))
-    if not any([(piece.key, 0) in least for piece in pieces(standing)]):
+    least = least_under([((state.key, turn), level) for state, turn, level in levels])
+    if not has_start(standing, least):
         return False
     turns = Turns(ours, theirs)
     return all([is_bounded(turns, step, goal, least) for step in levels])

@@ -2,6 +2,7 @@
 
 from manysights.meanings import meaning_of
 from manysights.naming import check_names
+from manysights.pieces import pieces
 from manysights.states import check_calls, explored, menu_of, nodes_of, states_after
 
 
@@ -39,6 +40,13 @@ class Positions:
     def truths(self, claim):
         """Return for each state whether the claim holds in it."""
         return [holds_in(state, claim) for state in self.states]
+
+    def triples(self, rows):
+        """Return a triple (state, turn, number) for each position that has a number in the rows of both turns."""
+        found = []
+        for number, state in enumerate(self.states):
+            found.extend([(state, turn, rows[turn][number]) for turn in (0, 1) if rows[turn][number] is not None])
+        return tuple(found)
 
     def choices_with(self):
         """Return for each state the pairs (state, choice) after which it can come."""
@@ -80,7 +88,34 @@ class Turns:
             self._replies[key] = found
         return self._replies[key]
 
+    def leads_within(self, state, turn, bound, least):
+        """Tell whether they lead, or we must lead, to a position that `least` has with at most this number."""
+        if turn == 1:
+            return any([is_within((key, 0), bound, least) for key in self.reply_keys(state)])
+        for choice in self.all_choices():
+            if not any([is_within((other.key, 1), bound, least) for other in self.after_choice(state, choice)]):
+                return False
+        return True
 
-def has_pieces(states, listed):
-    """Tell whether all these states have a key that is listed."""
-    return all([state.key in listed for state in states])
+
+def is_within(key, bound, least):
+    """Tell whether there is a number of at most this bound under a key."""
+    return key in least and least[key] <= bound
+
+
+def least_under(pairs):
+    """Return for each key the least number that stands beside it."""
+    found = {}
+    for key, number in pairs:
+        found[key] = min(number, found.get(key, number))
+    return found
+
+
+def has_pieces(standing, listed):
+    """Tell whether the keys of all pieces are listed."""
+    return all([piece.key in listed for piece in pieces(standing)])
+
+
+def has_start(standing, listed):
+    """Tell whether the key of a piece is listed with our turn."""
+    return any([(piece.key, 0) in listed for piece in pieces(standing)])
