@@ -121,6 +121,9 @@ class AgainTest(Fails, unittest.TestCase):
         ours = [to(1, fact(0)), to(2, fact(0)), to(3, fact(2))]
         found = self.check(table(), ours, [to(4, fact(1))], fact(1) | fact(3))
         self.assertEqual((found.sure, found.steps[0]), (True, (table(), 1, 2)))
+        theirs = [Deed.change([("f", [(fact(1), 5), (fact(5), 4)])])]
+        found = self.check(table(), ours, theirs, fact(1) | fact(5) | fact(3))
+        self.assertEqual((found.sure, found.steps[0]), (True, (table(), 1, 2)))
 
     def test_against_a_search(self):
         chance = random.Random(64)
