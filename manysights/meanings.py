@@ -5,11 +5,10 @@ a claim: whether it holds at the open deal with each position. All names in
 nodes that are passed are in the standing.
 """
 
-from math import gcd
-
 from manysights.forms import inner_first
 from manysights.naming import check_names
 from manysights.plains import combined
+from manysights.ratios import ratio
 from manysights.sights import Sight
 
 VIEWS = ("eyes", "value", "whether", "when", "worth", "pooled", "common")
@@ -39,19 +38,16 @@ def view_meaning(standing, label, inner):
     if word == "when":
         return Sight([mark if holding else -1 for mark, holding in zip(inner[1].marks, inner[0])])
     if word == "worth":
-        return worth_sight(standing.weights(label[1]), inner[0], label[2], inner[1:])
+        return Sight(worths_in(standing.weights(label[1]), inner[0], label[2], inner[1:]))
     return combined(word, inner)
 
 
-def worth_sight(weights, sight, numbers, rows):
-    """Return the sight of what terms are worth in a cell; the rows are the truths of their claims."""
+def worths_in(weights, sight, numbers, rows):
+    """Return what terms are worth in the cell of each position; the rows are the truths of their claims."""
     tops = weighed_cells(weights, sight, numbers, rows)
     bottoms = weighed_cells(weights, sight, (1,), ([True] * sight.size,))
-    worths = []
-    for top, bottom in zip(tops, bottoms):
-        shared = gcd(top, bottom)
-        worths.append((top // shared, bottom // shared))
-    return Sight([worths[mark] for mark in sight.marks])
+    worths = [ratio(top, bottom) for top, bottom in zip(tops, bottoms)]
+    return [worths[mark] for mark in sight.marks]
 
 
 def weighed_cells(weights, sight, numbers, rows):

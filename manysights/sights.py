@@ -93,7 +93,14 @@ class Sight:
 
     def __and__(self, other):
         check_sizes(self, other)
-        return Sight(list(zip(self.marks, other.marks)))
+        pairs = list(zip(self.marks, other.marks))
+        count = len(set(pairs))
+        # Who tells the other one is what both tell together.
+        if count == len(self._cells):
+            return self
+        if count == len(other._cells):
+            return other
+        return Sight(pairs)
 
     def __or__(self, other):
         check_sizes(self, other)

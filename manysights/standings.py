@@ -6,10 +6,11 @@ from manysights.errors import TakenName, UnknownDeal, UnknownFact, UnknownParty
 from manysights.sights import Sight
 
 
-def made_standing(deals, facts, parties):
+def made_standing(deals, facts, parties, places=None):
     """Return the standing with these deals, facts and parties.
 
     Facts are pairs (name, digits), parties are triples (name, sight, weights).
+    The places are the positions under the deals, of a standing with the same deals.
     """
     made = Standing(1)
     made.deals = tuple(deals)
@@ -20,7 +21,7 @@ def made_standing(deals, facts, parties):
     made._digits = dict(facts)
     made._sights = {name: sight for name, sight, _ in parties}
     made._weights = {name: weights for name, _, weights in parties}
-    made._places = {deal: place for place, deal in enumerate(deals)}
+    made._places = {deal: place for place, deal in enumerate(deals)} if places is None else places
     return made
 
 
@@ -28,14 +29,14 @@ def with_sights(standing, sights):
     """Return the standing in which the parties have the sights under their names."""
     facts = [(name, standing.digits(name)) for name in standing.facts]
     parties = [(name, sights[name], standing.weights(name)) for name in standing.parties]
-    return made_standing(standing.deals, facts, parties)
+    return made_standing(standing.deals, facts, parties, standing._places)
 
 
 def with_digits(standing, digits):
     """Return the standing in which the facts have the digits under their names."""
     facts = [(name, digits[name]) for name in standing.facts]
     parties = [(name, standing.sight(name), standing.weights(name)) for name in standing.parties]
-    return made_standing(standing.deals, facts, parties)
+    return made_standing(standing.deals, facts, parties, standing._places)
 
 
 def picked(row, places):

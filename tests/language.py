@@ -303,6 +303,11 @@ class Package:
             self.fault(source, node, "L19: except")
         if isinstance(node, (ast.AnnAssign, ast.arg)) and node.annotation is not None:
             self.fault(source, node, "L21: an annotation")
+        if isinstance(node, ast.Starred):
+            in_call = isinstance(source.parents[node], ast.Call)
+            plain = isinstance(node.value, ast.Name) or isinstance(node.value, ast.Attribute) and in_call
+            if (in_call or isinstance(node.ctx, ast.Store)) and not plain:
+                self.fault(source, node, "L6, L7: what has a star")
 
     def _look_constant(self, source, node):
         if isinstance(node.value, (float, complex)):
