@@ -226,6 +226,22 @@ def claim_from(parts):
     return Claim.all_of(members) if word == "and" else Claim.any_of(members)
 
 
+def deed_from(parts):
+    """Return the deed with these parts."""
+    word = parts[0]
+    if word == "show":
+        return Deed.show([(party, view_from(view)) for party, view in parts[1]])
+    if word == "announce":
+        return Deed.announce(view_from(parts[1]))
+    if word == "call":
+        return Deed.call(claim_from(parts[1]))
+    if word == "change":
+        return Deed.change([(fact, [(claim_from(claim), source) for claim, source in cases]) for fact, cases in parts[1]])
+    if word == "forget":
+        return Deed.forget(parts[1], view_from(parts[2]))
+    return Deed.row([deed_from(deed) for deed in parts[1]])
+
+
 def random_plain(random, eyes, parties="abc"):
     """Return a random plain view with so many eyes."""
     if eyes == 1:
