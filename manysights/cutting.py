@@ -27,7 +27,7 @@ class Pipes:
         self._top = 0
         self._moved = 0
 
-    def join(self, one, two, there, back):
+    def connect(self, one, two, there, back):
         """Add a pipe that carries at most so much there and so much back."""
         for start, goal, most in ((one, two, there), (two, one, back)):
             self.rows[start].append(len(self.heads))

@@ -7,6 +7,8 @@ from manysights.rules import Cells, acts_at, rule_of
 
 ONE = "one"
 ZERO = "zero"
+# Stands for both of them where cells have numbers.
+OUTSIDE = -1
 
 
 def check_hopes(standing, judge, hopes, ties):
@@ -89,11 +91,11 @@ def pipes_of(wants):
     count = len(wants.pulls)
     pipes = Pipes(count + 2)
     for cell, (zero, one) in enumerate(wants.pulls):
-        pipes.join(count, cell, one, 0)
-        pipes.join(cell, count + 1, zero, 0)
+        pipes.connect(count, cell, one, 0)
+        pipes.connect(cell, count + 1, zero, 0)
     for cell, other in wants.bonds:
         bond = wants.bonds[(cell, other)]
-        pipes.join(cell, other, bond, bond)
+        pipes.connect(cell, other, bond, bond)
     return pipes
 
 
@@ -125,17 +127,17 @@ def best_team(standing, judge, hopes, ties):
 
 
 def end_of(cells, end, word):
-    """Return the number of a cell, -1 for the word, or None if it is neither."""
+    """Return the number of a cell, OUTSIDE for the word, or None if it is neither."""
     if isinstance(end, str):
-        return -1 if end == word else None
+        return OUTSIDE if end == word else None
     return cells.number_of(end[0], end[1])
 
 
 def most_between(wants, start, goal):
-    """Return the most that can flow from a cell or `one`, which is -1, to a cell or `zero`, which is -1."""
-    if start == -1:
-        return 0 if goal == -1 else wants.pulls[goal][1]
-    if goal == -1:
+    """Return the most that can flow from a cell or `one` to a cell or `zero`."""
+    if start == OUTSIDE:
+        return 0 if goal == OUTSIDE else wants.pulls[goal][1]
+    if goal == OUTSIDE:
         return wants.pulls[start][0]
     return wants.bonds.get((min(start, goal), max(start, goal)), 0)
 
@@ -147,11 +149,11 @@ def fits(wants, amounts):
         amount = amounts[(start, goal)]
         if not 1 <= amount <= most_between(wants, start, goal):
             return False
-        if start != -1:
+        if start != OUTSIDE:
             kept[start] -= amount
-            if goal != -1 and (goal, start) in amounts:
+            if goal != OUTSIDE and (goal, start) in amounts:
                 return False
-        if goal != -1:
+        if goal != OUTSIDE:
             kept[goal] += amount
     return not any(kept)
 
@@ -168,4 +170,4 @@ def flow_bound(standing, judge, hopes, ties, flow):
         amounts[pair] = amount
     if not fits(wants, amounts):
         return None
-    return wants.whole() - sum([amounts[pair] for pair in amounts if pair[0] == -1])
+    return wants.whole() - sum([amounts[pair] for pair in amounts if pair[0] == OUTSIDE])

@@ -93,8 +93,9 @@ def first_acts(rows, parts):
     that was settled before: by the same way back it would have been settled.
     """
     defeated = self_defeating(rows, parts)
-    acts = [None] * (len(rows) // 2)
-    for cell in range(len(acts)):
+    count = len(rows) // 2
+    acts = [None] * count
+    for cell in range(count):
         if acts[cell] is None:
             settle(rows, acts, 2 * cell + int(defeated[2 * cell]))
     return acts

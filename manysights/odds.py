@@ -25,8 +25,9 @@ def lowered(worths, before, bounds):
 def settled(worths, before, bounds):
     """Lower the worths until all bounds hold; return None, or a deal whose worth falls for ever."""
     last = None
-    # Without a chain that shows that there are no weights, as many rounds as deals change nothing more.
-    for _ in range(len(worths)):
+    count = len(worths)
+    # If there are weights, nothing falls any more in the last of as many rounds as there are deals.
+    for _ in range(count):
         last = lowered(worths, before, bounds)
         if last is None:
             return None

@@ -4,6 +4,7 @@ What is still to be read stands in a list of tasks, the next one last: pairs of
 a word for what to read, and what else is to be known for it. So terms can be
 nested as deep as a text has room for. What was read and is not used yet stands
 in a list, too; each task but a "text" adds one item to it or changes its end.
+Names and digits are looked at when something is made of them.
 """
 
 from manysights.claims import Claim
@@ -160,7 +161,7 @@ class Reader:
         """Return the digit or the name of a source."""
         if self._scanner.peek()[:1].isdigit():
             return self._scanner.next_natural()
-        return self._scanner.next_name()
+        return self._scanner.next_word()
 
     def _make(self, word):
         """Make a view, claim or deed of what was read last."""
@@ -195,7 +196,7 @@ class Reader:
     def _read_one(self, what):
         """Do a task about a single name or number."""
         if what == "name":
-            self._found.append(self._scanner.next_name())
+            self._found.append(self._scanner.next_word())
         elif what == "number":
             self._found.append(self._scanner.next_whole())
         else:

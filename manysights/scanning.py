@@ -1,6 +1,6 @@
 """Going through a text from its beginning to its end."""
 
-from manysights.checks import DIGITS, LETTERS, check_name
+from manysights.checks import DIGITS, LETTERS
 from manysights.errors import BadText
 from manysights.numerals import natural
 
@@ -47,12 +47,6 @@ class Scanner:
         """Read the letters and digits that come next."""
         word = self.peek()
         self._place += len(word)
-        return word
-
-    def next_name(self):
-        """Read a name."""
-        word = self.next_word()
-        check_name(word)
         return word
 
     def next_natural(self):

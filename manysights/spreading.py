@@ -47,7 +47,8 @@ class Spread:
 
     def work_out(self):
         """Spread the ratios until all deals have one, or two deals clash."""
-        for start in range(len(self.shares)):
+        count = len(self.shares)
+        for start in range(count):
             if self.shares[start] is None and self.clash is None:
                 self.shares[start] = (1, 1)
                 self.sets.append(self._joined_to(start))

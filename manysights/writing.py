@@ -56,7 +56,7 @@ def written_form(label, texts):
     if word in ("eyes", "value"):
         return f"{word}({label[1]})"
     if word in ("whether", "when", "known"):
-        return f"{word}({', '.join(texts)})"
+        return word + "(" + ", ".join(texts) + ")"
     if word in ("worth", "weighs"):
         return f"{word}({label[1]}, {texts[0]}, {written_terms(label[2], texts[1:])})"
     return written_deed(label, texts)

@@ -194,6 +194,9 @@ class AskingTest(Fails, unittest.TestCase):
         rows = [(deals, cost) for deals, _, cost in least_asking(table(), "a", questions, F, 3).table]
         self.assertIs(self.check_floor(table(), questions, F, 3, rows, False), True)
         self.assertIs(is_floor(table(), "a", questions, F, 3, rows), True)
+        high = [(deals, cost) for deals, _, cost in least_asking(table(), "a", questions, F, 3, worst=True).table]
+        self.assertIs(self.check_floor(table(), questions, F, 3, high, True), True)
+        self.assertIs(is_floor(table(), "a", questions, F, 3, high), False)
         self.assertIs(self.check_floor(table(), questions, F, 3, [[list(row), [3 * c for c in cost]]
                                                                 for row, cost in rows][::-1], False), True)
         self.assertIs(self.check_floor(table(), questions, F, 8, rows, False), False)

@@ -11,7 +11,7 @@ def filled(count, pipes):
     """Return filled pipes from the place 0 to the place 1, and the room that they had."""
     made = Pipes(count)
     for one, two, there, back in pipes:
-        made.join(one, two, there, back)
+        made.connect(one, two, there, back)
     full = list(made.room)
     made.fill(0, 1)
     return made, full

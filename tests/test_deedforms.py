@@ -38,7 +38,7 @@ NO_DEEDS = (
     "change [f: -> 3]", "change [f: f=1 -> abcdefghi]", "change [1f:]", "change [f: f=1 -> 3] ", "forget a", "forget eyes(a)",
     "forget  a eyes(a)", "forget a  eyes(a)", "forget a f=1", "forget 1 eyes(a)", "row", "row{}", "row { }", "row {call f=1;}",
     "row {call f=1;call f=1}", "row {f=1}", "row {call f=1; }", "row {call f=1", "row {eyes(a)}", "{}", "row []", "show {}",
-    "row {}; row {}", "always", "eyes(a)", "exchange f g", "announce (eyes(a) | value(f))", "call known(value(f), always)",
+    "row {}; row {}", "always", "eyes(a)", "exchange f g", "(row {} & row {})", "(call f=1 & call f=1)", "(call f=1)", "~call f=1", "row {}=1", "row=1", "x(row {} & row {})", "announce (eyes(a) | value(f))", "call known(value(f), always)",
 )
 
 

@@ -188,6 +188,12 @@ class FlowsTest(Fails, unittest.TestCase):
             (("one", ("a", 0), 3), (("a", 0), ("b", 0), 2), (("b", 0), ("a", 0), 1)) + flow[2:],
         ):
             self.assertIsNone(call(spoilt), spoilt)
+        # No number that is not one of a cell stands for another cell, or for an end.
+        self.assertEqual(call((("one", ("a", 1), 1), (("a", 1), ("b", 1), 1), (("b", 1), "zero", 1))), whole - 1)
+        self.assertIsNone(call((("one", ("b", -1), 1), (("b", -1), ("b", 1), 1), (("b", 1), "zero", 1))))
+        self.assertIsNone(call((("one", ("a", 1), 1), (("a", 1), ("a", 3), 1), (("a", 3), "zero", 1))))
+        self.assertIsNone(flow_bound(table(), "b", [(ALL, ("b", 1), 9)], [], [("one", "zero", 1)]))
+        self.assertIsNone(flow_bound(table(), "b", [(ALL, ("b", 0), 9)], [], [(("a", -1), "zero", 1)]))
         # What goes around is kept in each cell.
         around = ((("a", 0), ("b", 1), 1), (("b", 1), ("a", 1), 1))
         self.assertIsNone(call(around))

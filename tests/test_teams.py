@@ -166,6 +166,12 @@ class TeamsTest(Fails, unittest.TestCase):
         ):
             self.assertIs(is_forcing(table(), demands, spoilt), False, spoilt)
         self.assertIs(is_forcing(table(), demands[:1], ring), False)
+        # No numbers that are not those of a cell and an act stand for another choice.
+        for one, two in ((("b", 0, 2), ("b", 0, 3)), (("b", 2, -2), ("b", 2, -1)), (("a", 3, 0), ("a", 3, 1))):
+            self.assertIs(is_forcing(table(), demands, [one, two, one]), False)
+        last = [(TWO, ("a", act), ("a", act)) for act in (0, 1)]
+        self.assertIs(is_forcing(table(), last, [("a", 1, 0), ("a", 1, 1), ("a", 1, 0)]), True)
+        self.assertIs(is_forcing(table(), last, [("b", -1, 0), ("b", -1, 1), ("b", -1, 0)]), False)
         # A choice can force itself, but this alone shows nothing.
         itself = [(ALL, ("a", 0), ("a", 1))]
         self.assertIs(is_forcing(table(), itself, [("a", 0, 1), ("a", 0, 1)]), False)

@@ -42,7 +42,8 @@ NO_VIEWS = (
     "worth(a, eyes(a), [+3 f=1])", "worth(a, eyes(a), [3 f=1; ])", "worth(a, eyes(a), [3  f=1])", "f=1", "always",
     "worth(a, eyes(a), [f=1])", "worth(a, eyes(a), [3 f=1, 2 f=1])", "worth(a, eyes(a), [- 3 f=1])", "eyes(a)(",
     "worth(a, eyes(a), [--3 f=1])", "worth(a, eyes(a), [3])", "worth(a, eyes(a), [3 ])", "worth(, eyes(a), [])",
-    "value(f) & eyes(a)", "eyes(a) | eyes(b)", "Eyes(a)", "view(a)", "whether(f=1", "eyes(a, b)", "eyes(a)b", "~eyes(a)",
+    "value(f) & eyes(a)", "eyes(a) | eyes(b)", "Eyes(a)", "view(a)", "whether(f=1", "eyes(a, b)", "eyes(a)b", "~eyes(a)", "~f=1", "~always",
+    "x(eyes(a) & eyes(b))", "eyes(a)~", "(f=1 & f=1)", "(eyes(a) & f=1)",
 )
 NO_CLAIMS = (
     "", "Always", "always ", " always", "always\n", "f", "f=", "=1", "f=10", "f=01", "f=-1", "f=a", "f =1", "f= 1",
@@ -50,7 +51,8 @@ NO_CLAIMS = (
     "(f=1  & f=1)", "known(f=1, eyes(a))", "known(value(f), f=1)", "known(eyes(a))", "known(eyes(a),f=1)", "eyes(a)",
     "weighs(a, value(f), [])", "weighs(a, eyes(a))", "weighs(a, eyes(a), [1 f=1]", "weighs(A, eyes(a), [])", "known",
     "weighs(a, eyes(a), [1 eyes(a)])", "weighs(a, eyes(a), [1 f=1;2 f=1])", "weighs(a, eyes(a), (1 f=1))", "f=1 & f=1",
-    "weighs(1, eyes(a), [])", "alwaysalways=1", "always()", "f=1)", "f=1f=1", "f=1=1", "~always=", "known()", "f=1,",
+    "weighs(1, eyes(a), [])", "alwaysalways=1", "always()", "f=1)", "f=1f=1", "f=1=1", "~always=", "known()", "f=1,", "x~f=1", "f~f=1",
+    "x(f=1 & f=1)", "(f=1 & eyes(a))", "(eyes(a) & eyes(b))", "1~f=1",
 )
 
 
