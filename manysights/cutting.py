@@ -128,8 +128,7 @@ class Pipes:
                 self._top -= 1
                 continue
             place = self._layers[self._top].pop()
-            if self._far[place] == self._top:
-                self._pass_on(place, goal)
+            self._pass_on(place, goal)
             if 2 * self._moved > len(self.rows):
                 self._line_up(goal, other)
 

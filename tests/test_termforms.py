@@ -6,10 +6,11 @@ import unittest
 
 from manysights.claims import Claim
 from manysights.errors import BadText
+from manysights.plains import Plains
 from manysights.termforms import format_claim, format_view, parse_claim, parse_view
 from manysights.views import View
 from tests.forms import form_of, plain_read, spoilt_texts
-from tests.helpers import Fails, random_claim, random_view
+from tests.helpers import Fails, random_claim, random_plain, random_view
 
 A, B, F = View.eyes("a"), View.eyes("b"), View.value("f")
 ALL, ONE = Claim.always(), Claim.fact("f", 1)
@@ -97,6 +98,13 @@ class TermFormsTest(Fails, unittest.TestCase):
                 self.assertEqual(parse(text).parts, term.parts)
                 # Two different terms have different written forms.
                 self.assertEqual(texts.setdefault((show, text), term.parts), term.parts)
+
+    def test_order_of_plain_views(self):
+        # Point 33 rests on the same written forms.
+        chance = random.Random(33)
+        for _ in range(200):
+            view, plains = random_plain(chance, chance.randint(1, 8)), Plains()
+            self.assertEqual(plains.text_of(plains.number_of(view.node)), format_view(view))
 
     def test_spoilt_texts(self):
         chance = random.Random(107)
